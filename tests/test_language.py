@@ -1,0 +1,225 @@
+"""Those rules of the language and of the interface that can be read off the files of the package."""
+
+import ast
+import builtins
+import keyword
+import pathlib
+import re
+import unittest
+
+ROOT = pathlib.Path(__file__).resolve().parent.parent
+PACKAGE = ROOT / "underwords"
+FILES = sorted(PACKAGE.rglob("*.py"))
+
+BUILTINS = set("""len range enumerate zip min max sum abs sorted reversed int str bool bytes list tuple dict set frozenset
+isinstance ord repr any all divmod pow getattr hasattr setattr map iter next Exception ValueError TypeError KeyError IndexError
+LookupError ZeroDivisionError ArithmeticError OverflowError RuntimeError NotImplementedError AttributeError StopIteration
+NotImplemented property classmethod staticmethod super type""".split())
+METHODS = set("""append clear copy count endswith extend find get index insert isalnum isalpha isdigit islower isspace isupper
+items join keys ljust lower lstrip partition pop remove replace reverse rfind rjust rpartition rsplit rstrip setdefault split
+splitlines startswith strip update upper values zfill bit_length title capitalize swapcase casefold center expandtabs
+removeprefix removesuffix rindex isascii isdecimal isnumeric istitle isidentifier isprintable add discard""".split())
+DUNDERS = set("""__init__ __eq__ __repr__ __str__ __len__ __iter__ __bool__ __neg__ __add__ __sub__ __mul__ __call__ __contains__
+__getitem__""".split())
+BARRED = set("""register mro elements open input law version_info with_traceback add_note attrgetter breakpoint builtins compile
+copyright credits delattr dir eval exec exit gc globals help id importlib license locals methodcaller os quit vars""".split())
+WORDS = set("""typing typing_extensions enum Enum IntEnum StrEnum Flag IntFlag Generic Protocol ABC ABCMeta namedtuple NamedTuple
+TypedDict TYPE_CHECKING abstractmethod dataclass overload contextmanager _wall _WallAttr""".split())
+REFUSED = (ast.AsyncFunctionDef, ast.AsyncFor, ast.AsyncWith, ast.Await, ast.Import, ast.Div, ast.MatMult, ast.AnnAssign,
+           ast.TryStar)
+EATERS = ("any", "all", "min", "max", "sum", "sorted")
+
+INTERFACE = {
+    "errors.py": """WordError InvalidSystem InvalidWord InvalidMirror InvalidPoly InvalidElement InvalidRow InvalidLot
+        InvalidOrder InvalidOperation ParseError InvalidNumber UnknownName TooMany Refused NothingToUndo""",
+    "base/golds.py": "Gold",
+    "base/polys.py": "Poly MAX_COEFFICIENTS MAX_EXPONENT MAX_RAISED",
+    "groups/systems.py": "System MAX_LETTERS BONDS",
+    "groups/words.py": """MAX_WORD MAX_MEMBERS MAX_LISTED MAX_LIKENED normal length is_shortest product inverse left_letters
+        right_letters shortest_words members of_length likeness is_likeness""",
+    "groups/mirrors.py": "MOST_LISTED is_mirror mirrors root_of mirror_of led_root inversions lot_paper is_lot_paper",
+    "under/under.py": "MAX_UNDER MAX_PLACES is_under under_paper is_under_paper all_places members_under",
+    "under/intervals.py": "interval numbers moebius covers_of ladder_number middle_pair",
+    "under/lots.py": "MAX_ELEMENTS MAX_ALIKE Lot lot_of lot_likeness is_lot_likeness",
+}
+CLASSES = {
+    "Gold": """__init__ whole part norm sense is_less __add__ __sub__ __mul__ __neg__ __eq__ __bool__ __str__""",
+    "Poly": """__init__ read coefficients lowest degree is_alike_turned at raised turned moved value_at __add__ __sub__ __mul__
+        __neg__ __eq__ __bool__ __len__ __str__""",
+    "System": "__init__ rows signed polygon twenty ring letters bonds bond_of __eq__ __str__",
+    "Lot": "__init__ ranks covers below above leads between __eq__ __len__ __str__",
+}
+
+
+def parsed(path):
+    return ast.parse(path.read_text(encoding="utf-8"))
+
+
+def module_name(path):
+    parts = path.relative_to(ROOT).with_suffix("").parts
+    return ".".join(parts[:-1] if parts[-1] == "__init__" else parts)
+
+
+def docstrings(tree):
+    kinds = (ast.Module, ast.ClassDef, ast.FunctionDef)
+    return {id(node.body[0].value) for node in ast.walk(tree) if isinstance(node, kinds) and node.body
+            and isinstance(node.body[0], ast.Expr) and isinstance(node.body[0].value, ast.Constant)}
+
+
+def bound_names(tree):
+    for node in ast.walk(tree):
+        if isinstance(node, ast.Name) and isinstance(node.ctx, ast.Store):
+            yield node.id
+        elif isinstance(node, ast.arg):
+            yield node.arg
+        elif isinstance(node, (ast.FunctionDef, ast.ClassDef)):
+            yield node.name
+
+
+class LanguageTest(unittest.TestCase):
+    def each(self):
+        for path in FILES:
+            yield path, path.read_text(encoding="utf-8"), parsed(path)
+
+    def test_files(self):
+        self.assertLessEqual(len(FILES), 100)
+        for path in PACKAGE.rglob("*"):
+            if "__pycache__" not in path.parts:
+                self.assertTrue(path.is_dir() or re.fullmatch(r"[a-z0-9_]+\.py", path.name), path)
+                self.assertTrue(path.is_file() or (path / "__init__.py").is_file(), path)
+
+    def test_characters_and_sizes(self):
+        for path, text, tree in self.each():
+            self.assertTrue(all(sign == "\n" or " " <= sign <= "~" for sign in text))
+            rows = text.split("\n")
+            self.assertLessEqual(len(rows), 400)
+            self.assertLessEqual(max(map(len, rows)), 120)
+            for node in ast.walk(tree):
+                if isinstance(node, ast.FunctionDef):
+                    self.assertLessEqual(node.end_lineno - node.lineno + 1, 40, node.name)
+
+    def test_module_level(self):
+        for path, text, tree in self.each():
+            for at, node in enumerate(tree.body):
+                if isinstance(node, ast.Assign):
+                    self.assertEqual([type(target) for target in node.targets], [ast.Name])
+                    ast.literal_eval(node.value)
+                elif isinstance(node, ast.Expr):
+                    self.assertEqual((at, type(node.value)), (0, ast.Constant))
+                else:
+                    self.assertIsInstance(node, (ast.ImportFrom, ast.FunctionDef, ast.ClassDef))
+
+    def test_imports(self):
+        graph = {}
+        for path, text, tree in self.each():
+            graph[module_name(path)] = found = []
+            for node in ast.walk(tree):
+                if isinstance(node, ast.ImportFrom):
+                    self.assertIn(node, tree.body)
+                    self.assertEqual((node.level, node.module.split(".")[0]), (0, "underwords"))
+                    target = ROOT / (node.module.replace(".", "/") + ".py")
+                    names = {name for child in parsed(target).body for name in bound_names(child)}
+                    for alias in node.names:
+                        self.assertIsNone(alias.asname)
+                        self.assertIn(alias.name, names)
+                        self.assertGreater(len(re.findall(rf"\b{alias.name}\b", text)), 1, alias.name)
+                    found.append(node.module)
+        done = []
+        while len(done) < len(graph):
+            ready = [name for name in graph if name not in done and all(other in done for other in graph[name])]
+            self.assertTrue(ready, "files that import each other")
+            done.extend(ready)
+
+    def test_names(self):
+        everything = set(dir(builtins))
+        for path, text, tree in self.each():
+            classes = {node.name for node in tree.body if isinstance(node, ast.ClassDef)}
+            imported = {alias.name for node in tree.body if isinstance(node, ast.ImportFrom) for alias in node.names}
+            methods = {item for node in ast.walk(tree) if isinstance(node, ast.ClassDef) for item in node.body}
+            own = [name for node in ast.walk(tree) if node not in methods for name in bound_names_of(node)]
+            for name in own:
+                self.assertNotIn(name, everything)
+                self.assertNotIn(name, BARRED)
+                self.assertTrue(name == "_" or re.fullmatch(r"_?[A-Za-z][A-Za-z0-9_]*", name), name)
+            stored = [node.id for node in ast.walk(tree) if isinstance(node, ast.Name) and isinstance(node.ctx, ast.Store)]
+            stored += [node.arg for node in ast.walk(tree) if isinstance(node, ast.arg)]
+            self.assertFalse((classes | imported) & set(stored))
+            for node in ast.walk(tree):
+                if isinstance(node, ast.Name):
+                    self.assertTrue(node.id not in everything or node.id in BUILTINS, node.id)
+                    self.assertFalse(node.id == "_" and isinstance(node.ctx, ast.Load))
+            for word in re.findall(r"\w+", text):
+                self.assertFalse(word in WORDS or keyword.iskeyword(word) and word in ("async", "await"), word)
+
+    def test_classes_and_methods(self):
+        for path, text, tree in self.each():
+            for node in ast.walk(tree):
+                if isinstance(node, (ast.FunctionDef, ast.ClassDef)):
+                    told = [ast.unparse(item) for item in node.decorator_list]
+                    self.assertIn(told, ([], ["property"], ["classmethod"]))
+                if isinstance(node, ast.FunctionDef) and node.name.startswith("__"):
+                    self.assertIn(node.name, DUNDERS)
+                    ends = [ast.unparse(item.value) for item in ast.walk(node) if isinstance(item, ast.Return) and item.value]
+                    if node.name == "__len__":
+                        self.assertTrue(all(end.startswith("len(") for end in ends), ends)
+                    if node.name == "__str__":
+                        self.assertTrue(all(end.startswith(("str(", "f'", "f\"")) for end in ends), ends)
+                    if node.name == "__init__":
+                        self.assertEqual(ends, [])
+
+    def test_expressions(self):
+        methods = set(METHODS)
+        for path in FILES:
+            methods.update(node.name for node in ast.walk(parsed(path)) if isinstance(node, ast.FunctionDef))
+        for path, text, tree in self.each():
+            told = docstrings(tree)
+            for node in ast.walk(tree):
+                self.assertNotIsInstance(node, REFUSED)
+                if isinstance(node, ast.Constant):
+                    self.assertNotIsInstance(node.value, (float, complex))
+                    if isinstance(node.value, str) and id(node) not in told:
+                        self.assertNotIn("%", node.value)
+                if isinstance(node, ast.BinOp) and isinstance(node.op, ast.Pow):
+                    self.assertTrue(isinstance(node.right, ast.Constant) and 0 <= node.right.value <= 64)
+                if isinstance(node, ast.Compare) and any(isinstance(op, (ast.Is, ast.IsNot)) for op in node.ops):
+                    self.assertEqual([item.value for item in node.comparators], [None])
+                if isinstance(node, ast.Call):
+                    self.check_call(node, methods)
+
+    def check_call(self, node, methods):
+        if isinstance(node.func, ast.Attribute):
+            self.assertIn(node.func.attr, methods)
+        elif isinstance(node.func, ast.Name) and node.func.id in EATERS:
+            self.assertFalse(any(isinstance(item, ast.GeneratorExp) for item in node.args))
+        self.assertIsInstance(node.func, (ast.Attribute, ast.Name))
+        for item in node.args:
+            if isinstance(item, ast.Starred):
+                self.assertIsInstance(item.value, (ast.Name, ast.Attribute))
+        self.assertFalse(any(item.arg is None for item in node.keywords))
+
+    def test_interface(self):
+        for place, names in INTERFACE.items():
+            tree = parsed(PACKAGE / place)
+            own = {name for node in tree.body for name in (
+                [node.name] if isinstance(node, (ast.FunctionDef, ast.ClassDef)) else
+                [target.id for target in node.targets] if isinstance(node, ast.Assign) else [])}
+            for name in names.split():
+                self.assertIn(name, own)
+            for node in tree.body:
+                if isinstance(node, ast.ClassDef) and node.name in CLASSES:
+                    methods = [item.name for item in node.body if isinstance(item, ast.FunctionDef)]
+                    self.assertEqual(len(methods), len(set(methods)))
+                    self.assertLessEqual(set(CLASSES[node.name].split()), set(methods))
+
+
+def bound_names_of(node):
+    """The names that one node binds by itself."""
+    if isinstance(node, ast.Name) and isinstance(node.ctx, ast.Store):
+        return [node.id]
+    if isinstance(node, ast.arg):
+        return [node.arg]
+    return [node.name] if isinstance(node, (ast.FunctionDef, ast.ClassDef)) else []
+
+
+if __name__ == "__main__":
+    unittest.main()

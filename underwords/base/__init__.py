@@ -1,0 +1,1 @@
+"""Numbers with s, and polynomials."""

@@ -1,0 +1,1 @@
+"""Systems, words, mirrors and roots."""

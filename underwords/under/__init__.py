@@ -1,0 +1,1 @@
+"""What lies under what, intervals, and lots as orders."""
