@@ -134,6 +134,9 @@ class LikenessTest(Case):
     def test_no_exchange_for_the_bond_0_or_beyond_the_end(self):
         self.assertFalse(is_likeness(TWO, (0, 1), (1, 0), ("path", ((0, 1), (1, 0)))))
         self.assertFalse(is_likeness(FREE, (), (), ("path", ((), ()))))
+        for one, other in (((0, 1, 0), (1, 0, 0)), ((0, 1, 0), (1, 1, 1)), ((0, 0, 1), (1, 0, 1)), ((0, 1, 0, 2), (1, 0, 1, 1)),
+                           ((0, 1), (1, 0)), ((2, 0, 1, 0), (2, 1, 0, 2)), ((0, 2, 0), (2, 0, 2)), ((0, 2), (2, 2))):
+            self.assertFalse(is_likeness(FOUR, one, other, ("path", (one, other))))
         self.assertFalse(is_likeness(SQUARE, (0, 1, 0), (1, 0, 1), ("path", ((0, 1, 0), (1, 0, 1)))))
         self.assertFalse(is_likeness(RING, (0, 1, 0, 2), (1, 0, 1, 0), ("path", ((0, 1, 0, 2), (1, 0, 1, 0)))))
 

@@ -108,6 +108,12 @@ class LotPaperTest(Case):
         self.assertFalse(self.check(TWO, (*LONG[:19], (1,))))
         # The three mirrors that are found first have words of more than 40 letters, others have shorter ones.
         self.assertFalse(self.check(TWO, (*LONG[:3], (1, 0) * 17 + (1,))))
+        chance = random.Random(33)
+        for _ in range(40):
+            ends = [chance.randint(0, 4), chance.randint(0, 4)]
+            lot = [*LONG[:ends[0]], *[(1, 0) * at + (1,) for at in range(ends[1])]]
+            lot += [(1, 0) * at + (1,) for at in chance.sample(range(5, 20), 2)]
+            self.assertFalse(self.check(TWO, tuple(chance.sample(lot, len(lot)))))
         # All mirrors of the plane with at most 40 letters are in the lot.
         rays = LONG + tuple((1, 0) * at + (1,) for at in range(20))
         self.refuses("TooMany", 40, lot_paper, TWO, rays)
@@ -157,6 +163,8 @@ class LotPaperTest(Case):
             (((0,), (2,)), [("member", (0,)), ("member", (2, 1)), ("member", (0, 2, 1)), ("member", [0, 2]), ("member", (0, 3)),
                             ("member", (0, 2), ()), ("member", (False, 2)), ("plane", (0,), (2,), (1,)),
                             ("plane", (0,), (1,), (0, 1, 0)), ("plane", (0, 1, 0), (2,), (0, 1, 2, 1, 0)), ("member", None)]),
+            (((0, 1, 2, 1, 0),), [("plane", (0,), (1,), (0, 1, 2, 1, 0)), ("plane", (1,), (2,), (0, 1, 2, 1, 0)),
+                                   ("plane", (0,), (2,), (0, 1, 2, 1, 0)), ("plane", (0, 1, 0), (1, 2, 1), (0, 1, 2, 1, 0))]),
             (((0,), (1,), (0, 1, 0)), [("plane", (0,), (1,), (0, 1, 0)), ("member", (0, 1))]),
             ((), [("plane", (0,), (1,), (0, 1, 0)), ("member", (0,))]),
         ]

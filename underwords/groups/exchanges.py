@@ -92,25 +92,9 @@ def path_of_shortest(system, one, other):
     return path
 
 
-def without_returns(path):
-    """The path without the stretches that lead from a word to itself."""
-    spots = {}
-    kept = []
-    for word in path:
-        if word in spots:
-            end = spots[word] + 1
-            for gone in kept[end:]:
-                del spots[gone]
-            kept = kept[:end]
-        else:
-            spots[word] = len(kept)
-            kept.append(word)
-    return tuple(kept)
-
-
 def path_between(system, links, one, other):
     """A path of words from one word to another one of the same member."""
     start = path_to_shortest(system, links, one)
     end = path_to_shortest(system, links, other)
     middle = path_of_shortest(system, start[-1], end[-1])
-    return without_returns(start + middle[1:] + end[::-1][1:])
+    return tuple(start + middle[1:] + end[::-1][1:])
