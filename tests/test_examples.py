@@ -3,10 +3,16 @@
 import unittest
 
 from underwords import errors
+from underwords.algebra import elements
 from underwords.base.golds import Gold
 from underwords.base.polys import Poly
 from underwords.groups import mirrors, words
 from underwords.groups.systems import System
+from underwords.ones import masks, matchings, polys
+from underwords.paths import orders
+from underwords.ratio import flags, rs
+from underwords.rows import rows
+from underwords.sheaf import webs
 from underwords.under import intervals, lots, under
 
 SYSTEMS = """
@@ -74,14 +80,111 @@ INTERVALS_AND_LOTS = """
 >>> [numbers(THREE, BEND), numbers(THREE, TURN), lot_likeness(lot_of(THREE, BEND), lot_of(THREE, TURN))]
 [(1, 3, 5, 6, 4, 1), (1, 3, 5, 6, 4, 1), None]
 """
+ORDERS = """
+>>> THREE, ORDER = System.rows(3), ((0,), (0, 1, 0), (1,))
+>>> [mirror_row(SQUARE, (0, 1, 0, 1)), longest_member(THREE), is_mirror_order(THREE, ORDER), is_mirror_order(THREE, ((0,), (1,), (0, 1, 0)))]
+[((0,), (0, 1, 0), (1, 0, 1), (1,)), (0, 1, 0), True, False]
+>>> [rising_paths(THREE, ORDER, (), (0, 1, 0)), longest_rising(THREE, ORDER, (1,), (0, 1, 0)), longest_rising(THREE, ORDER, (1,), (0,))]
+[(((0,), (0, 1, 0), (1,)), ((0, 1, 0),)), ((0,), (1,)), None]
+>>> [rising_numbers(THREE, ORDER, (), (0, 1, 0)), path_numbers(THREE, (), (0, 1, 0)), least_steps(FOUR, (1,), (0, 1, 2, 1, 0)), moved_order(THREE, ORDER)]
+[{1: 1, 3: 1}, {1: 1, 3: 4}, 4, ((1,), (0, 1, 0), (0,))]
+>>> [word_of_order(THREE, moved_order(THREE, ORDER)), is_order_paper(THREE, ((0,), (1,), (0, 1, 0)), ("plane", (0,), (1,), (0, 1, 0)))]
+[(1, 0, 1), True]
+>>> longest_member(RING)
+raises TooMany(120)
+"""
+R_AND_FLAGS = """
+>>> [str(r_poly(FOUR, (), (0, 1, 0))), str(r_poly(FOUR, (0,), (0, 1, 0))), str(r_poly(FOUR, (), (1, 0, 2, 1))), bool(r_poly(FOUR, (0, 1), (1, 0)))]
+['-1 + 2 q - 2 q^2 + q^3', '1 - 2 q + q^2', '1 - 3 q + 4 q^2 - 3 q^3 + q^4', False]
+>>> [list(r_row(FOUR, (0, 1))), len(r_row(TWENTY, (0, 1, 0, 1, 0)))]
+[[(), (0,), (1,), (0, 1)], 10]
+>>> [flag_count(2, 3), flag_count(3, 3), flag_count(2, 4), len(list(all_flags(2, 2))), is_flag(2, ((0, 1), (1, 0))), is_flag(2, ((0, 1), (1, 1)))]
+[21, 52, 315, 3, True, False]
+>>> [position(2, far_flag(2, 3), first_flag(2, 3)), far_count(2, (3, 2, 1), (1, 2, 3)), far_count(3, (3, 2, 1), (1, 2, 3))]
+[(3, 2, 1), 3, 14]
+>>> r_poly(RING, (), (0, 1, 3))
+raises InvalidWord
+"""
+ALGEBRA = """
+>>> ONE, Q, LESS = Poly((1,)), Poly((0, 1)), Poly((-1, 1))
+>>> ZERO, NEXT = letter_element(FOUR, 0), letter_element(FOUR, 1)
+>>> [(ZERO * ZERO).entries == {(): Q, (0,): LESS}, ZERO * NEXT == t_element(FOUR, (0, 1)), ZERO * NEXT == NEXT * ZERO, len(ZERO * NEXT * ZERO)]
+[True, True, False, 1]
+>>> [back_of(FOUR, (0,)).entries == {(): Poly((1, -1), -1), (0,): Poly((1,), -1)}, ZERO.bar() == back_of(FOUR, (0,)), ZERO.bar().bar() == ZERO]
+[True, True, True]
+>>> [product_along(FOUR, (0, 1, 0)) == product_along(FOUR, (1, 0, 1)), (ZERO * NEXT).undone() == NEXT * ZERO, (ZERO * ZERO).poly_of(()) == Q]
+[True, True, True]
+>>> Element(FOUR, {(0, 0, 1): ONE, (1,): ONE, (2,): Poly(())}).entries == {(1,): Poly((2,))}
+True
+>>> letter_element(FOUR, 3)
+raises InvalidNumber(3)
+"""
+P = """
+>>> [str(p_poly(FOUR, (1,), (1, 0, 2, 1))), str(p_poly(FOUR, (0,), (1, 0, 2, 1))), str(p_poly(FOUR, (), (0, 1, 2, 1, 0))), p_poly(FOUR, (0, 1), (2, 1)) == Poly(())]
+['1 + q', '1', '1 + q', True]
+>>> [mu(FOUR, (1,), (1, 0, 2, 1)), mu(FOUR, (0, 2), (0, 1, 2, 1, 0)), mu(FOUR, (0,), (0, 1, 2)), mu(FOUR, (2,), (2, 1))]
+[1, 1, 0, 1]
+>>> ROW = p_row(FOUR, (1, 0, 2, 1))
+>>> [len(ROW), [word for word in ROW if str(ROW[word]) != "1"], ROW == p_by_bar(FOUR, (1, 0, 2, 1))]
+[14, [(), (1,)], True]
+"""
+MATCHINGS = """
+>>> lot = lot_of(SQUARE, (0, 1, 0))
+>>> all_matchings(lot)
+((1, 0, 3, 2, 5, 4), (1, 0, 4, 5, 2, 3), (2, 3, 0, 1, 5, 4), (2, 4, 0, 5, 1, 3))
+>>> [letter_matching(SQUARE, (0, 1, 0), 0), letter_matching(SQUARE, (0, 1, 0), 0, right=True), is_matching(lot, (2, 3, 0, 1, 5, 4)), is_matching(lot, (1, 0, 3, 2, 4, 5))]
+[(1, 0, 3, 2, 5, 4), (1, 0, 4, 5, 2, 3), True, False]
+>>> [str(r_of_lot(lot, 0, 5)), str(r_of_lot(lot, 1, 5)), str(p_of_lot(lot, 0, 5)), str(r_by_matching_of_lot(lot, (2, 3, 0, 1, 5, 4), 0))]
+['-1 + 2 q - 2 q^2 + q^3', '1 - 2 q + q^2', '1', '-1 + 2 q - 2 q^2 + q^3']
+>>> three = Lot((0, 1, 1, 1, 2), ((0, 1), (0, 2), (0, 3), (1, 4), (2, 4), (3, 4)))
+>>> [matching(three), str(p_of_lot(lot_of(FOUR, (1, 0, 2, 1)), 0, 13))]
+[None, '1 + q']
+"""
+MASKS = """
+>>> THREE = System.rows(3)
+>>> [masks(THREE, (0, 1, 0), (0,)), first_mask(THREE, (0, 1, 0), (0,)), str(mask_poly(THREE, (0, 1, 0), (0,))), str(mask_poly(THREE, (1, 0, 1), (0,)))]
+[((0, 0, 1), (1, 0, 0)), (0, 0, 1), '1 + q', '1']
+>>> [made_by(THREE, (0, 0, 1), (1, 1, 0)), defect(THREE, (0, 0, 1), (1, 1, 0)), strict_masks(THREE, (0, 1, 0), ())]
+[(), 1, ((0, 0, 0), (1, 0, 1))]
+>>> [str(r_by_masks(THREE, (0, 1, 0), ())), is_tight(THREE, (0, 1)), tight_paper(THREE, (0, 1, 0))[0], is_tight_paper(THREE, (0, 1, 0), ("mask", (1, 0, 1)))]
+['-1 + 2 q - 2 q^2 + q^3', True, 'mask', False]
+>>> [str(mask_poly(FOUR, (1, 0, 2, 1), (1,))), is_tight(FOUR, (1, 0, 2, 1)), is_tight(SQUARE, (0, 1, 0))]
+['1 + q', True, False]
+>>> defect(THREE, (0, 1), (1,))
+raises InvalidOperation
+"""
+WEBS = """
+>>> [len(web_ties(FOUR, (0, 1, 0))), web_ties(SQUARE, (0, 1)), len(web_ties(FOUR, (1, 0, 2, 1)))]
+[9, (((), (0,), (0,)), ((), (1,), (1,)), ((0,), (0, 1), (0, 1, 0)), ((1,), (0, 1), (0,))), 29]
+>>> told = makers(FOUR, (1, 0, 2, 1))
+>>> [told[()].coefficients, told[(1,)].coefficients, [low for low in told if told[low] != Poly((1,))]]
+[(1, 1), (1, 1), [(), (1,)]]
+>>> [section_number(FOUR, (0, 1, 0), degree) for degree in (0, 1, 2)], section_number(TWENTY, (0, 1, 0, 1), 1)
+([1, 5, 14], 5)
+>>> row = (Gold(1), Gold(0), Gold(2))
+>>> [led_row(FOUR, (0,), row) == (Gold(-1), Gold(0), Gold(2)), is_section(FOUR, (0,), {(): row, (0,): led_row(FOUR, (0,), row)}), is_section(FOUR, (0,), {(): row, (0,): (Gold(1), Gold(1), Gold(2))})]
+[True, True, False]
+>>> makers(RING, (0, 1, 2, 0, 1, 2, 0, 1))
+raises TooMany(7)
+"""
+ROWS = """
+>>> [row_of((0, 1), 3), word_of((2, 3, 1)), signed_row_of((0, 1, 0), 2), word_of_signed((-2, -1))]
+[(2, 3, 1), (0, 1), (-2, -1), (0, 1, 0)]
+>>> [corner((2, 1, 3), (1, 3, 2)), corner((1, 2, 3), (3, 2, 1)), corner((-1, 2), (2, 1)), corner((2, 1), (-1, 2))]
+[(1, 2), None, (2, 1), (1, -1)]
+>>> [pattern_places((4, 5, 3, 1, 2), (3, 4, 1, 2)), is_pattern_places((4, 2, 3, 1), (2, 1), (0, 2))]
+[(0, 1, 3, 4), True]
+>>> row_of((2,), 3)
+raises InvalidWord
+"""
 
-TEXTS = (GOLDS_AND_POLYS, WORDS, MIRRORS, UNDER, INTERVALS_AND_LOTS)
+TEXTS = (GOLDS_AND_POLYS, WORDS, MIRRORS, UNDER, INTERVALS_AND_LOTS, ORDERS, R_AND_FLAGS, ALGEBRA, P, MATCHINGS, MASKS, WEBS, ROWS)
 
 
 def named():
     """The names that the examples use."""
     found = {"System": System, "Gold": Gold, "Poly": Poly}
-    for module in (words, mirrors, under, intervals, lots):
+    for module in (words, mirrors, under, intervals, lots, orders, rs, flags, elements, polys, matchings, masks, webs, rows):
         found.update({name: value for name, value in vars(module).items() if not name.startswith("_")})
     return found
 
@@ -115,7 +218,7 @@ class ExamplesTest(unittest.TestCase):
                 self.assertEqual(repr(eval(row, names)), wanted, row)
 
     def test_there_are_examples(self):
-        self.assertEqual([len(rows_of(text)) for text in TEXTS], [5, 5, 5, 5, 8])
+        self.assertEqual([len(rows_of(text)) for text in TEXTS], [5, 5, 5, 5, 8, 6, 5, 7, 4, 6, 6, 7, 4])
 
     def test_golds_and_polys(self):
         self.run_text(GOLDS_AND_POLYS)
@@ -131,6 +234,30 @@ class ExamplesTest(unittest.TestCase):
 
     def test_intervals_and_lots(self):
         self.run_text(INTERVALS_AND_LOTS)
+
+    def test_orders(self):
+        self.run_text(ORDERS)
+
+    def test_r_and_flags(self):
+        self.run_text(R_AND_FLAGS)
+
+    def test_algebra(self):
+        self.run_text(ALGEBRA)
+
+    def test_p(self):
+        self.run_text(P)
+
+    def test_matchings(self):
+        self.run_text(MATCHINGS)
+
+    def test_masks(self):
+        self.run_text(MASKS)
+
+    def test_webs(self):
+        self.run_text(WEBS)
+
+    def test_rows(self):
+        self.run_text(ROWS)
 
 
 if __name__ == "__main__":

@@ -28,6 +28,7 @@ TypedDict TYPE_CHECKING abstractmethod dataclass overload contextmanager _wall _
 REFUSED = (ast.AsyncFunctionDef, ast.AsyncFor, ast.AsyncWith, ast.Await, ast.Import, ast.Div, ast.MatMult, ast.AnnAssign,
            ast.TryStar)
 EATERS = ("any", "all", "min", "max", "sum", "sorted")
+LIBRARY = {"gcd", "lcm", "isqrt", "comb", "perm", "factorial"}
 
 INTERFACE = {
     "errors.py": """WordError InvalidSystem InvalidWord InvalidMirror InvalidPoly InvalidElement InvalidRow InvalidLot
@@ -41,6 +42,19 @@ INTERFACE = {
     "under/under.py": "MAX_UNDER MAX_PLACES is_under under_paper is_under_paper all_places members_under",
     "under/intervals.py": "interval numbers moebius covers_of ladder_number middle_pair",
     "under/lots.py": "MAX_ELEMENTS MAX_ALIKE Lot lot_of lot_likeness is_lot_likeness",
+    "paths/orders.py": """MAX_MEMBERS MAX_PATHS mirror_row longest_member is_mirror_order order_paper is_order_paper word_of_order
+        reversed_order moved_order rising_paths longest_rising is_rising rising_numbers path_numbers least_steps""",
+    "ratio/rs.py": "r_poly r_row r_by_paths",
+    "ratio/flags.py": "FLAG_PRIMES MOST_SIZE flag_count all_flags first_flag far_flag is_flag position far_count",
+    "algebra/elements.py": "MAX_PARTS Element t_element unit_element letter_element back_of product_along",
+    "ones/polys.py": "MAX_UNDER p_poly p_row p_by_bar mu c_element",
+    "ones/matchings.py": """MAX_MATCHED MAX_LISTED matching is_matching all_matchings letter_matching r_of_lot p_of_lot
+        r_by_matching_of_lot""",
+    "ones/masks.py": """MAX_MASKED masks first_mask made_by defect mask_poly mask_row letters_product strict_masks r_by_masks
+        is_tight tight_paper is_tight_paper""",
+    "sheaf/webs.py": "MAX_WEB MAX_SECTIONS web_ties makers section_number led_row is_section",
+    "rows/rows.py": """MOST_PLACES MOST_SIGNED row_of word_of signed_row_of word_of_signed corner is_corner pattern_places
+        is_pattern_places""",
 }
 CLASSES = {
     "Gold": """__init__ whole part norm sense is_less __add__ __sub__ __mul__ __neg__ __eq__ __bool__ __str__""",
@@ -48,7 +62,10 @@ CLASSES = {
         __neg__ __eq__ __bool__ __len__ __str__""",
     "System": "__init__ rows signed polygon twenty ring letters bonds bond_of __eq__ __str__",
     "Lot": "__init__ ranks covers below above leads between __eq__ __len__ __str__",
+    "Element": "__init__ system entries poly_of bar undone times __add__ __sub__ __mul__ __len__ __bool__ __eq__ __str__",
 }
+# The parameters of functions whose names and defaults the document tells.
+KEYWORDS = {("ones/matchings.py", "letter_matching"): "system, word, letter, *, right=False"}
 
 
 def parsed(path):
@@ -114,7 +131,11 @@ class LanguageTest(unittest.TestCase):
         for path, text, tree in self.each():
             graph[module_name(path)] = found = []
             for node in ast.walk(tree):
-                if isinstance(node, ast.ImportFrom):
+                if isinstance(node, ast.ImportFrom) and node.module == "math":
+                    self.assertIn(node, tree.body)
+                    self.assertLessEqual({alias.name for alias in node.names}, LIBRARY)
+                    self.assertTrue(all(alias.asname is None for alias in node.names))
+                elif isinstance(node, ast.ImportFrom):
                     self.assertIn(node, tree.body)
                     self.assertEqual((node.level, node.module.split(".")[0]), (0, "underwords"))
                     target = ROOT / (node.module.replace(".", "/") + ".py")
@@ -206,6 +227,8 @@ class LanguageTest(unittest.TestCase):
             for name in names.split():
                 self.assertIn(name, own)
             for node in tree.body:
+                if isinstance(node, ast.FunctionDef) and (place, node.name) in KEYWORDS:
+                    self.assertEqual(ast.unparse(node.args), KEYWORDS[place, node.name])
                 if isinstance(node, ast.ClassDef) and node.name in CLASSES:
                     methods = [item.name for item in node.body if isinstance(item, ast.FunctionDef)]
                     self.assertEqual(len(methods), len(set(methods)))

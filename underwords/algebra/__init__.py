@@ -1,0 +1,1 @@
+"""The algebra of the members of a system."""

@@ -1,0 +1,1 @@
+"""The polynomials R, and flags that count them."""

@@ -1,0 +1,1 @@
+"""Rows and signed rows of integers."""

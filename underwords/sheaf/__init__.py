@@ -1,0 +1,1 @@
+"""Webs of members, and sections over them."""
