@@ -5,6 +5,7 @@ import unittest
 
 from tests.reference import FOUR, RING, TWENTY
 from tests.support import Case, error_of
+from underwords.algebra.elements import Element, back_of, letter_element, product_along, t_element, unit_element
 from underwords.base.golds import Gold
 from underwords.base.polys import Poly
 from underwords.groups.mirrors import (
@@ -15,11 +16,29 @@ from underwords.groups.words import (
     inverse, is_likeness, is_shortest, left_letters, length, likeness, members, normal, of_length, product, right_letters,
     shortest_words,
 )
+from underwords.ones.masks import (
+    defect, first_mask, is_tight, is_tight_paper, letters_product, made_by, mask_poly, mask_row, masks, r_by_masks,
+    strict_masks, tight_paper,
+)
+from underwords.ones.matchings import (
+    all_matchings, is_matching, letter_matching, matching, p_of_lot, r_by_matching_of_lot, r_of_lot,
+)
+from underwords.ones.polys import c_element, mu, p_by_bar, p_poly, p_row
+from underwords.paths.orders import (
+    is_mirror_order, is_order_paper, is_rising, least_steps, longest_member, longest_rising, mirror_row, moved_order,
+    order_paper, path_numbers, reversed_order, rising_numbers, rising_paths, word_of_order,
+)
+from underwords.ratio.flags import far_count, far_flag, first_flag, flag_count, is_flag, position
+from underwords.ratio.rs import r_by_paths, r_poly, r_row
+from underwords.rows.rows import corner, is_corner, is_pattern_places, pattern_places, word_of, word_of_signed
+from underwords.sheaf.webs import is_section, led_row, makers, section_number, web_ties
 from underwords.under.intervals import covers_of, interval, ladder_number, middle_pair, moebius, numbers
 from underwords.under.lots import Lot, is_lot_likeness, lot_likeness, lot_of
 from underwords.under.under import all_places, is_under, is_under_paper, members_under, under_paper
 
 LOT = Lot((0, 1), ((0, 1),))
+ORDER = mirror_row(FOUR, longest_member(FOUR))
+GOLDS = (Gold(1), Gold(0), Gold(2))
 ODD = [None, True, False, 10 ** 99, -10 ** 60, "", "word", " \t\n", (None,), (True,), (0, False), ("0",), [], [0], [(0,)], {},
        {(0,): 1}, {0: (1,)}, ((((((((),),),),),),),), (10 ** 60,), (3,), (-1,), Gold(0), Poly((1,)), (Gold(1),), (0,) * 41]
 
@@ -32,6 +51,22 @@ KINDS = {
     "row": ([*ODD, FOUR, LOT, (), (0, 0), (0, 0, 0, 0), (0, 0, None), (0, 0, True), (0, 0, Poly((1,)))], "InvalidOperation", False),
     "size": ([*ODD, FOUR, LOT, -1, 41, ()], "InvalidNumber", True),
     "order": ([*ODD, FOUR, 0, ()], "InvalidLot", False),
+    "mirrors": ([*ODD, FOUR, LOT, 0, (), ORDER[1:], ORDER[:1] * 6, list(ORDER), ORDER[:5] + ((3,),)], "InvalidOrder", False),
+    "rule": ([*ODD, FOUR, LOT, 0, (), ORDER[1:], ORDER[1:2] + ORDER[:1] + ORDER[2:], list(ORDER)], "InvalidOrder", False),
+    "letter": ([*ODD, FOUR, LOT, 3, -1, ()], "InvalidNumber", True),
+    "spot": ([*ODD, FOUR, LOT, 2, -1, ()], "InvalidNumber", True),
+    "prime": ([*ODD, FOUR, 1, 4, ()], "InvalidNumber", True),
+    "small": ([*ODD, FOUR, 0, 5, ()], "InvalidNumber", True),
+    "degree": ([*ODD, FOUR, -1, 4, ()], "InvalidNumber", True),
+    "flag": ([*ODD, FOUR, 0, ((1, 1), (1, 0)), ((1, 0), (0, 0))], "InvalidOperation", False),
+    "four": ([*ODD, FOUR, 0, (), (1, 1), (2, 3), (1, 2, 3, 4, 5)], "InvalidRow", False),
+    "row of integers": ([*ODD, FOUR, 0, (), (1,), (1, 1), (1, -2), (1, 2, 3, 4, 5, 6)], "InvalidRow", False),
+    "signed row": ([*ODD, FOUR, 0, (), (1,), (1, -1), (1, 2, 3, 4)], "InvalidRow", False),
+    "any row": ([*ODD, FOUR, 0, (), (1,), (1, -1), (1, 2, 3, -4)], "InvalidRow", False),
+    "mask": ([*ODD, FOUR, 0, (), (0,), (0, 2), (0, 0, 0)], "InvalidOperation", False),
+    "golds": ([*ODD, FOUR, 0, (), (1, 0, 2), GOLDS[1:], list(GOLDS)], "InvalidOperation", False),
+    "matching": ([*ODD, FOUR, 0, (), (0, 1), (1, 1)], "InvalidOperation", False),
+    "entries": ([*[value for value in ODD if value != {}], FOUR, LOT, 0, (), {(0,): LOT}], "InvalidElement", False),
 }
 CALLS = [
     (normal, ("system", FOUR), ("word", (0, 1))), (length, ("system", FOUR), ("word", (0, 1))),
@@ -53,6 +88,42 @@ CALLS = [
     (ladder_number, ("system", FOUR), ("word", (0,)), ("word", (1, 0))),
     (middle_pair, ("system", FOUR), ("word", ()), ("word", (1, 0))), (lot_of, ("system", FOUR), ("word", (1, 0))),
     (lot_likeness, ("order", LOT), ("order", LOT)), (is_lot_likeness, ("order", LOT), ("order", LOT), (None, (0, 1))),
+    (mirror_row, ("system", FOUR), ("word", (0, 1))), (longest_member, ("system", FOUR)),
+    (is_mirror_order, ("system", FOUR), (None, ORDER)), (order_paper, ("system", FOUR), ("mirrors", ORDER)),
+    (is_order_paper, ("system", FOUR), ("mirrors", ORDER), (None, ("word", (0, 1, 0, 2, 1, 0)))),
+    (word_of_order, ("system", FOUR), ("rule", ORDER)), (reversed_order, ("system", FOUR), ("rule", ORDER)),
+    (moved_order, ("system", FOUR), ("rule", ORDER)),
+    (rising_paths, ("system", FOUR), ("rule", ORDER), ("word", ()), ("word", (0,))),
+    (longest_rising, ("system", FOUR), ("rule", ORDER), ("word", ()), ("word", (0,))),
+    (is_rising, ("system", FOUR), ("rule", ORDER), ("word", ()), ("word", (0,)), (None, ((0,),))),
+    (rising_numbers, ("system", FOUR), ("rule", ORDER), ("word", ()), ("word", (0,))),
+    (path_numbers, ("system", FOUR), ("word", ()), ("word", (0,))), (least_steps, ("system", FOUR), ("word", ()), ("word", (0,))),
+    (r_poly, ("system", FOUR), ("word", ()), ("word", (0,))), (r_row, ("system", FOUR), ("word", (0,))),
+    (r_by_paths, ("system", FOUR), ("rule", ORDER), ("word", ()), ("word", (0,))),
+    (flag_count, ("prime", 3), ("small", 4)), (first_flag, ("prime", 3), ("small", 4)), (far_flag, ("prime", 3), ("small", 4)),
+    (is_flag, ("prime", 3), (None, ((1, 0), (0, 1)))), (position, ("prime", 2), ("flag", ((1, 0), (0, 1))), ("flag", ((0, 1), (1, 0)))),
+    (far_count, ("prime", 2), ("four", (2, 1)), ("four", (1, 2))),
+    (Element, ("system", FOUR), ("entries", {(0,): Poly((1,))})), (t_element, ("system", FOUR), ("word", (0, 1))),
+    (unit_element, ("system", FOUR)), (letter_element, ("system", FOUR), ("letter", 2)), (back_of, ("system", FOUR), ("word", (0, 1))),
+    (product_along, ("system", FOUR), ("word", (0, 0))), (p_poly, ("system", FOUR), ("word", (0,)), ("word", (0, 1))),
+    (p_row, ("system", FOUR), ("word", (0, 1))), (p_by_bar, ("system", FOUR), ("word", (0, 1))),
+    (mu, ("system", FOUR), ("word", (0,)), ("word", (0, 1))), (c_element, ("system", FOUR), ("word", (0, 1))),
+    (matching, ("order", LOT)), (all_matchings, ("order", LOT)), (is_matching, ("order", LOT), (None, (1, 0))),
+    (letter_matching, ("system", FOUR), ("word", (0,)), ("letter", 0)), (r_of_lot, ("order", LOT), ("spot", 0), ("spot", 1)),
+    (p_of_lot, ("order", LOT), ("spot", 0), ("spot", 1)), (r_by_matching_of_lot, ("order", LOT), ("matching", (1, 0)), ("spot", 1)),
+    (masks, ("system", FOUR), ("word", (0, 1)), ("word", ())), (first_mask, ("system", FOUR), ("word", (0, 1)), ("word", ())),
+    (made_by, ("system", FOUR), ("word", (0, 1)), ("mask", (0, 1))), (defect, ("system", FOUR), ("word", (0, 1)), ("mask", (0, 1))),
+    (mask_poly, ("system", FOUR), ("word", (0, 1)), ("word", ())), (mask_row, ("system", FOUR), ("word", (0, 1))),
+    (letters_product, ("system", FOUR), ("word", (0, 1))), (strict_masks, ("system", FOUR), ("word", (0, 1)), ("word", ())),
+    (r_by_masks, ("system", FOUR), ("word", (0, 1)), ("word", ())), (is_tight, ("system", FOUR), ("word", (0, 1))),
+    (tight_paper, ("system", FOUR), ("word", (0, 1))), (is_tight_paper, ("system", FOUR), ("word", (0, 1)), (None, ("tight",))),
+    (web_ties, ("system", FOUR), ("word", (0, 1))), (makers, ("system", FOUR), ("word", (0, 1))),
+    (section_number, ("system", FOUR), ("word", (0, 1)), ("degree", 3)), (led_row, ("system", FOUR), ("word", (0,)), ("golds", GOLDS)),
+    (is_section, ("system", FOUR), ("word", ()), (None, {(): GOLDS})),
+    (word_of, ("row of integers", (2, 1))), (word_of_signed, ("signed row", (2, -1))),
+    (corner, ("any row", (2, 1)), ("any row", (1, -2))), (is_corner, ("any row", (2, 1)), ("any row", (1, 2)), (None, (1, 2))),
+    (pattern_places, ("row of integers", (1, 2)), ("row of integers", (1, 2))),
+    (is_pattern_places, ("row of integers", (1, 2)), ("row of integers", (1, 2)), (None, (0, 1))),
 ]
 
 
@@ -115,8 +186,7 @@ class ArgumentsTest(Case):
             given = [value for _, value in parameters]
             before = [repr(value) if not isinstance(value, (System, Lot)) else str(value) for value in given]
             first, second = act(*given), act(*given)
-            if act is not root_of and act is not led_root:
-                self.assertEqual(first, second)
+            self.assertEqual(first, second)
             self.assertEqual([repr(value) if not isinstance(value, (System, Lot)) else str(value) for value in given], before)
         self.assertEqual(root_of(TWENTY, (0, 1, 0)), root_of(TWENTY, (0, 1, 0)))
 

@@ -3,13 +3,13 @@ import random
 import unittest
 from unittest import mock
 
-from tests.reference import FIVE, FOUR, RING, SMALL, SQUARE, TWENTY, Model, is_positive, plus, times
+from tests.reference import FIVE, FOUR, RING, SMALL, SQUARE, TWENTY, is_positive, plus, times
 from tests.support import WRONG, Case, error_of
 from underwords.errors import TooMany
 from underwords.groups.mirrors import inversions, mirrors, root_of
 from underwords.groups.systems import System
 from underwords.groups.words import (
-    inverse, is_shortest, length, members, normal, of_length, product, shortest_words,
+    inverse, is_shortest, members, normal, of_length, product, shortest_words,
 )
 from underwords.paths import orders as module
 from underwords.paths.orders import (

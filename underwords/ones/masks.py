@@ -165,7 +165,8 @@ def all_masks(system, word):
 
 def with_words(links, triples):
     """The triples with the normal words of the members in the place of the states of the undone ones."""
-    words = {state: normal_word(links, normal_of(links, state)[::-1]) for _, state, _ in triples}
+    states = {state: True for mask, state, many in triples}
+    words = {state: normal_word(links, normal_of(links, state)[::-1]) for state in states}
     return [(mask, words[state], many) for mask, state, many in triples]
 
 

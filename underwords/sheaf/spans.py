@@ -10,13 +10,13 @@ class Span:
     """
 
     def __init__(self):
-        self.kept = []
+        self.held = []
 
     def taken_off(self, row):
         """The pair of what is left of a row, 0 at all of the places, and the shares of what was taken off."""
         left = list(row)
         shares = {}
-        for place, own, told in self.kept:
+        for place, own, told in self.held:
             factor = left[place]
             if factor != NONE:
                 left = [plus(number, by(opposite(factor), more)) for number, more in zip(left, own)]
@@ -30,4 +30,4 @@ class Span:
         factor = inverted(left[place])
         told = {other: by(opposite(factor), shares[other]) for other in shares}
         told[label] = factor
-        self.kept.append((place, [by(factor, number) for number in left], told))
+        self.held.append((place, [by(factor, number) for number in left], told))

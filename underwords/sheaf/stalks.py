@@ -28,7 +28,7 @@ class Web:
             for low, root in row:
                 self.ups[low].append((high, numbers[root]))
         self.degrees = [[] for _ in ties]
-        self.leads = [[] for _ in ties]
+        self.lead_rows = [[] for _ in ties]
         self.sections = [[] for _ in range(most + 1)]
 
     def start(self):
@@ -80,14 +80,14 @@ class Web:
     def new_maker(self, at, degree, row):
         """Give a member a maker with its leads along all ties up, and tell the label for the maker alone."""
         self.degrees[at].append(degree)
-        self.leads[at].append(row)
+        self.lead_rows[at].append(row)
         return (len(self.degrees[at]) - 1, 0)
 
     def lead_row(self, at, label):
         """What a label leads to along all ties up, as it counts there."""
         maker, power = label
         factors = [raised(number, power) for high, number in self.ups[at] for _ in self.degrees[high]]
-        return [by(factor, number) for factor, number in zip(factors, self.leads[at][maker])]
+        return [by(factor, number) for factor, number in zip(factors, self.lead_rows[at][maker])]
 
     def row_above(self, at, section):
         """The values of a section at the upper ends of all ties up, as they count there: a number for each maker."""
