@@ -28,6 +28,9 @@ TypedDict TYPE_CHECKING abstractmethod dataclass overload contextmanager _wall _
 REFUSED = (ast.AsyncFunctionDef, ast.AsyncFor, ast.AsyncWith, ast.Await, ast.Import, ast.Div, ast.MatMult, ast.AnnAssign,
            ast.TryStar)
 EATERS = ("any", "all", "min", "max", "sum", "sorted")
+CHANGING = ("append", "extend", "pop", "update", "setdefault", "remove", "clear", "insert", "add", "discard", "reverse", "sort")
+# What a function creates itself, so that it may change it: lists and dicts, and objects of its package.
+MADE = ("[", "{", "list(", "Element(", "Gold(", "Poly(")
 LIBRARY = {"gcd", "lcm", "isqrt", "comb", "perm", "factorial"}
 
 INTERFACE = {
@@ -218,6 +221,38 @@ class LanguageTest(unittest.TestCase):
                 self.assertIsInstance(item.value, (ast.Name, ast.Attribute))
         self.assertFalse(any(item.arg is None for item in node.keywords))
 
+    def test_operators_and_properties_change_nothing(self):
+        told = {}
+        now = []
+        for path, text, tree in self.each():
+            for node in ast.walk(tree):
+                if isinstance(node, ast.FunctionDef):
+                    told.setdefault(node.name, []).append(node)
+                    kinds = [ast.unparse(item) for item in node.decorator_list]
+                    now.extend([node.name] if "property" in kinds or node.name.startswith("__") and node.name != "__init__" else [])
+        reached = set()
+        while now:
+            name = now.pop()
+            if name not in reached:
+                reached.add(name)
+                for node in told.get(name, []):
+                    self.check_unchanging(node)
+                    now.extend(called_names(node))
+        self.assertLessEqual({"__add__", "entries", "parts_along", "put_ahead", "poly_text"}, reached)
+
+    def check_unchanging(self, function):
+        made = {target.id for node in ast.walk(function) if isinstance(node, ast.Assign) for target in node.targets
+                if isinstance(target, ast.Name) and ast.unparse(node.value).startswith(MADE)}
+        for node in ast.walk(function):
+            self.assertNotIsInstance(node, (ast.Delete, ast.Yield, ast.Nonlocal, ast.Global))
+            if isinstance(node, ast.AugAssign):
+                self.assertTrue(isinstance(node.target, ast.Name) and isinstance(node.value, ast.Constant), ast.unparse(node))
+            for target in node.targets if isinstance(node, ast.Assign) else ():
+                if isinstance(target, (ast.Subscript, ast.Attribute)):
+                    self.assertIn(ast.unparse(target.value), made, ast.unparse(node))
+            if isinstance(node, ast.Call) and isinstance(node.func, ast.Attribute) and node.func.attr in CHANGING:
+                self.assertIn(ast.unparse(node.func.value).split("[")[0], made, ast.unparse(node))
+
     def test_interface(self):
         for place, names in INTERFACE.items():
             tree = parsed(PACKAGE / place)
@@ -233,6 +268,12 @@ class LanguageTest(unittest.TestCase):
                     methods = [item.name for item in node.body if isinstance(item, ast.FunctionDef)]
                     self.assertEqual(len(methods), len(set(methods)))
                     self.assertLessEqual(set(CLASSES[node.name].split()), set(methods))
+
+
+def called_names(function):
+    """The names of the functions and methods that a function calls."""
+    calls = [node.func for node in ast.walk(function) if isinstance(node, ast.Call)]
+    return [call.id if isinstance(call, ast.Name) else call.attr for call in calls]
 
 
 def bound_names_of(node):

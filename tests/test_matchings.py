@@ -322,6 +322,10 @@ class PolysTest(Case):
             self.assertEqual(act(long, 0, 1), r_of_lot(PAIR, 0, 1) if act is r_of_lot else Poly((1,)))
             self.assertIsNone(error_of(act, long, 0, 59)[0])
             self.assertEqual(error_of(act, long, 0, 61), ("TooMany", 60))
+            for many in (60, 61):
+                fan = Lot((0,) * (many - 1) + (1,), tuple((at, many - 1) for at in range(many - 1)))
+                name, kept = ("TooMany", 60) if many == 61 else ("Refused", ("matching",))
+                self.refuses(name, kept, act, fan, 0, many - 1)
         value = letter_matching(TWO, (0, 1) * 16, 0)
         self.refuses("TooMany", 60, r_by_matching_of_lot, long, value, 0)
         self.refuses("InvalidNumber", 64, r_by_matching_of_lot, long, value, 64)

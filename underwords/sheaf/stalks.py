@@ -17,8 +17,8 @@ from underwords.sheaf.spans import Span
 class Web:
     """The ties up from each member, and the makers, their leads and the sections over the members that are done.
 
-    A section is a dict from members to values, without those at which it is 0. By their degrees there are only
-    sections that are no sums of forms times others.
+    A section is a dict from members to values, without those at which it is 0. Sections stand by their degrees, and
+    sums of forms times other ones are left out.
     """
 
     def __init__(self, ties, most):

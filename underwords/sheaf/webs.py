@@ -36,7 +36,7 @@ def makers(system, word):
     check_words(system, word)
     check_size(system, word)
     table = table_of(system, word)
-    # The exponents of P [0.16] tell that no maker has a greater degree.
+    # The exponents of P tell that no maker has a greater degree [0.16], [12.5].
     degrees = maker_degrees(ties_below(system, table), max(len(table.words[-1]) - 1, 0) // 2)
     return {low: numbered(degrees[at]) for at, low in enumerate(table.words)}
 
