@@ -258,6 +258,21 @@ class ElementTest(Case):
         self.refuses("TooMany", 120, lambda: (one - unit_element(WIDE)) * turned)
         self.refuses("TooMany", 120, product_along, WIDE, longest + longest[::-1])
 
+    def test_products_with_too_many_members_on_the_way_alone(self):
+        long = [word for size in (20, 22, 24) for word in of_length(RING, size) if 0 in left_letters(RING, word)]
+        zero, one, unit = letter_element(RING, 0), letter_element(RING, 1), unit_element(RING)
+        for many in (60, 61, 100):
+            upper = Element(RING, {word: Poly((1, at)) for at, word in enumerate(long[:many])})
+            lower = Element(RING, {(0,) + word: Poly((1, at)) for at, word in enumerate(long[:many])})
+            self.assertEqual(error_of(lambda: zero * upper)[0], None if many == 60 else "TooMany")
+            self.assertEqual((zero - unit.times(LESS)) * upper, lower.times(Q))
+        upper = Element(RING, {word: ONE for word in long[:60]})
+        gone = upper - Element(RING, {(0,) + word: Q for word in long[:60]})
+        self.assertEqual((len(gone), (zero + unit) * gone), (120, Element(RING, {})))
+        self.refuses("TooMany", 120, lambda: one * (zero * gone))
+        self.assertEqual((one * (zero + unit)) * gone, Element(RING, {}))
+        self.assertEqual((one * zero + one) * gone, Element(RING, {}))
+
     def test_bars_with_too_many_members(self):
         long = (0, 1, 2) * 6
         self.assertRaises(OverflowError, members_under, RING, long)
