@@ -28,6 +28,10 @@ TypedDict TYPE_CHECKING abstractmethod dataclass overload contextmanager _wall _
 REFUSED = (ast.AsyncFunctionDef, ast.AsyncFor, ast.AsyncWith, ast.Await, ast.Import, ast.Div, ast.MatMult, ast.AnnAssign,
            ast.TryStar)
 EATERS = ("any", "all", "min", "max", "sum", "sorted")
+# What goes over a range, a zip, a view and the like on the spot, as its first argument.
+WALKERS = ("list", "tuple", "dict", "sorted", "sum", "any", "all", "min", "max", "enumerate", "zip")
+WALKED = ("range", "zip", "enumerate", "reversed")
+VIEWS = ("items", "keys", "values")
 CHANGING = ("append", "extend", "pop", "update", "setdefault", "remove", "clear", "insert", "add", "discard", "reverse", "sort")
 # What a function creates itself, so that it may change it: lists and dicts, and objects of its package.
 MADE = ("[", "{", "list(", "Element(", "Gold(", "Poly(")
@@ -221,6 +225,12 @@ class LanguageTest(unittest.TestCase):
                 self.assertIsInstance(item.value, (ast.Name, ast.Attribute))
         self.assertFalse(any(item.arg is None for item in node.keywords))
 
+    def test_ranges_and_views_are_iterated_at_once(self):
+        told = "f(range(3))\nx = list(range(3))\nfor k in zip(a, b.items()): pass\nd.keys()\ng(1, enumerate(a))\n"
+        self.assertEqual(sorted(unwalked(ast.parse(told))), ["d.keys()", "enumerate(a)", "range(3)"])
+        for path, text, tree in self.each():
+            self.assertEqual(unwalked(tree), [], path)
+
     def test_operators_and_properties_change_nothing(self):
         told = {}
         now = []
@@ -268,6 +278,32 @@ class LanguageTest(unittest.TestCase):
                     methods = [item.name for item in node.body if isinstance(item, ast.FunctionDef)]
                     self.assertEqual(len(methods), len(set(methods)))
                     self.assertLessEqual(set(CLASSES[node.name].split()), set(methods))
+
+
+def is_walked(node):
+    """Whether the node is a range, a zip, a view or the like."""
+    if not isinstance(node, ast.Call):
+        return False
+    if isinstance(node.func, ast.Attribute):
+        return node.func.attr in VIEWS and not node.args
+    return isinstance(node.func, ast.Name) and node.func.id in WALKED
+
+
+def unwalked(tree):
+    """The ranges, zips, views and the like that are not iterated at once."""
+    places = set()
+    for node in ast.walk(tree):
+        if isinstance(node, (ast.For, ast.comprehension)):
+            places.add(id(node.iter))
+        if isinstance(node, ast.Call) and isinstance(node.func, ast.Name) and node.args:
+            told = node.args if node.func.id == "zip" else node.args[:1]
+            places.update(id(item) for item in told if node.func.id in WALKERS)
+            places.update(id(item) for item in told if node.func.id in ("len", "reversed") and ast.unparse(item).startswith("range("))
+        if isinstance(node, ast.Call) and isinstance(node.func, ast.Attribute) and node.func.attr == "join":
+            places.update(id(item) for item in node.args)
+        if isinstance(node, ast.Compare) and isinstance(node.ops[0], (ast.In, ast.NotIn)):
+            places.update(id(item) for item in node.comparators if ast.unparse(item).startswith("range("))
+    return [ast.unparse(node) for node in ast.walk(tree) if is_walked(node) and id(node) not in places]
 
 
 def called_names(function):

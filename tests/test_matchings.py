@@ -9,7 +9,7 @@ from underwords.groups.systems import System
 from underwords.groups.words import left_letters, members, normal, of_length, right_letters
 from underwords.ones import matchings as module
 from underwords.ones.matchings import (
-    all_matchings, is_matching, letter_matching, matching, p_of_lot, r_by_matching_of_lot, r_of_lot,
+    all_bits, all_matchings, is_matching, letter_matching, matching, p_of_lot, r_by_matching_of_lot, r_of_lot,
 )
 from underwords.ones.polys import p_row
 from underwords.ratio.rs import r_row
@@ -83,6 +83,10 @@ def small_lots():
 class MatchingTest(Case):
     def test_constants(self):
         self.assertEqual((module.MAX_MATCHED, module.MAX_LISTED), (60, 24))
+
+    def test_bits_of_all_elements(self):
+        for lot, bits in ((ONE_ELEMENT, 1), (PAIR, 3), (SQUARE_LOT, 15), (THREE_ATOMS, 31), (lot_of(TWENTY, (0, 1, 2, 0, 1, 0, 1, 2)), None)):
+            self.assertEqual(all_bits(lot), 2 ** len(lot) - 1 if bits is None else bits)
 
     def test_lots_of_members_against_a_search(self):
         chance = random.Random(1)

@@ -153,7 +153,7 @@ def check_elements(lot, one, other):
 
 def all_bits(lot):
     """The bits of all elements of a lot."""
-    return bits_of(range(len(lot)))
+    return bits_of(list(range(len(lot))))
 
 
 def in_sequence(partners):
