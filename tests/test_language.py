@@ -62,6 +62,12 @@ INTERFACE = {
     "sheaf/webs.py": "MAX_WEB MAX_SECTIONS web_ties makers section_number led_row is_section",
     "rows/rows.py": """MOST_PLACES MOST_SIGNED row_of word_of signed_row_of word_of_signed corner is_corner pattern_places
         is_pattern_places""",
+    "rows/tables.py": "bumped row_of_tables is_table all_tables",
+    "ones/smooth.py": "mirrors_at is_smooth smooth_paper is_smooth_paper worst_members row_paper is_row_paper",
+    "cells/cells.py": "MAX_MEMBERS MAX_TRIED c_product mu_ties left_cells cell_table greatest_power turned_poly",
+    "loose/loose.py": "is_loose loose_paper is_loose_paper heap_of readings loose_members loose_of_length",
+    "loose/diagrams.py": """is_diagram all_diagrams letter_diagram diagram_product diagram_of loose_of_diagram loose_image
+        loose_product""",
 }
 CLASSES = {
     "Gold": """__init__ whole part norm sense is_less __add__ __sub__ __mul__ __neg__ __eq__ __bool__ __str__""",

@@ -181,7 +181,7 @@ def product_along(system, word):
     check_words(system, word)
     links = links_of(system)
     entries = unit_entries(links)
-    for letter in reversed(word):
+    for letter in word[::-1]:
         entries = letter_times(links, entries, letter, False)
         check_parts(entries)
     return element_of(system, by_words(links, entries))

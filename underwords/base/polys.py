@@ -88,7 +88,7 @@ class Poly:
         if self._lowest < 0:
             raise Refused(("below",))
         value = 0
-        for coefficient in reversed(self._coefficients):
+        for coefficient in self._coefficients[::-1]:
             value = value * number + coefficient
         return value * power(number, self._lowest)
 

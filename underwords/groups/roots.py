@@ -27,7 +27,7 @@ def led(rows, root, letter):
 
 def led_along(rows, root, word):
     """The row to which a word leads a row, its last letter first."""
-    for letter in reversed(word):
+    for letter in word[::-1]:
         root = led(rows, root, letter)
     return root
 

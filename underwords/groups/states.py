@@ -33,7 +33,7 @@ def put_ahead(links, state, letter):
 
 def word_ahead(links, state, word):
     """The state of the product of a word and a member."""
-    for letter in reversed(word):
+    for letter in word[::-1]:
         state = put_ahead(links, state, letter)
     return state
 

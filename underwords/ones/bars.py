@@ -10,7 +10,7 @@ def p_by_r(ranks, between, rows):
     """
     top = between[-1]
     found = {top: (1,)}
-    for low in reversed(between[:-1]):
+    for low in between[-2::-1]:
         total = ()
         for high in list(found):
             if rows[high][low]:

@@ -58,7 +58,7 @@ def letters_product(system, word):
     links = links_of(system)
     entries = unit_entries(links)
     # No integer is ever below 0, so no member falls out again.
-    for letter in reversed(word):
+    for letter in word[::-1]:
         entries = summed(letter_times(links, entries, letter, False), entries)
         check_parts(entries)
     return element_of(system, by_words(links, entries))

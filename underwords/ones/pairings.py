@@ -13,7 +13,7 @@ class Pairing:
         self.near = [bits_of((*lot.below(at), *lot.above(at))) for at in range(size)]
         self.over = [1 << at for at in range(size)]
         self.under = [1 << at for at in range(size)]
-        for low, high in reversed(lot.covers):
+        for low, high in lot.covers[::-1]:
             self.over[low] |= self.over[high]
         for high, low in sorted([(high, low) for low, high in lot.covers]):
             self.under[high] |= self.under[low]

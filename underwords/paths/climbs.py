@@ -58,7 +58,7 @@ def left_behind(climbs, end):
     """For each place the dict of the members from which a rising path by the mirrors behind it leads to the end."""
     now = {end: True}
     found = []
-    for row in reversed(climbs):
+    for row in climbs[::-1]:
         found.append(now)
         earlier = {at: True for at in now}
         for low, high in row:

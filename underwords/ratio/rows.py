@@ -28,7 +28,7 @@ def next_row(table, row, letter):
 def greatest_row(table):
     """The row of the greatest member of the lot."""
     row = first_row(table)
-    for letter in reversed(table.words[-1]):
+    for letter in table.words[-1][::-1]:
         row = next_row(table, row, letter)
     return row
 

@@ -157,7 +157,7 @@ def told_rows(one, other):
 
 def doubled(row):
     """The doubled row of a signed row."""
-    return tuple([-entry for entry in reversed(row)]) + row
+    return tuple([-entry for entry in row[::-1]]) + row
 
 
 def is_over(first, second, i, j):

@@ -36,7 +36,7 @@ def words_under(links, word, most):
     """The normal words of the members under the member of a shortest word, by length; None if more than most."""
     # With a letter ahead that makes a member longer, its lot gets the letter put ahead of all that was in it.
     lot = {first_state(links): True}
-    for letter in reversed(word):
+    for letter in word[::-1]:
         for state in list(lot):
             lot[put_ahead(links, state, letter)] = True
         if len(lot) > most:

@@ -1,0 +1,1 @@
+"""Products of the elements D_w, and cells."""

@@ -1,0 +1,1 @@
+"""Loose members, and diagrams that stand for them."""
