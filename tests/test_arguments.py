@@ -8,6 +8,7 @@ from tests.support import Case, error_of
 from underwords.algebra.elements import Element, back_of, letter_element, product_along, t_element, unit_element
 from underwords.base.golds import Gold
 from underwords.base.polys import Poly
+from underwords.cells.cells import c_product, cell_table, greatest_power, left_cells, mu_ties, turned_poly
 from underwords.groups.mirrors import (
     inversions, is_lot_paper, is_mirror, led_root, lot_paper, mirror_of, mirrors, root_of,
 )
@@ -15,6 +16,12 @@ from underwords.groups.systems import System
 from underwords.groups.words import (
     inverse, is_likeness, is_shortest, left_letters, length, likeness, members, normal, of_length, product, right_letters,
     shortest_words,
+)
+from underwords.loose.diagrams import (
+    all_diagrams, diagram_of, diagram_product, is_diagram, letter_diagram, loose_image, loose_of_diagram, loose_product,
+)
+from underwords.loose.loose import (
+    heap_of, is_loose, is_loose_paper, loose_members, loose_of_length, loose_paper, readings,
 )
 from underwords.ones.masks import (
     defect, first_mask, is_tight, is_tight_paper, letters_product, made_by, mask_poly, mask_row, masks, r_by_masks,
@@ -24,6 +31,9 @@ from underwords.ones.matchings import (
     all_matchings, is_matching, letter_matching, matching, p_of_lot, r_by_matching_of_lot, r_of_lot,
 )
 from underwords.ones.polys import c_element, mu, p_by_bar, p_poly, p_row
+from underwords.ones.smooth import (
+    is_row_paper, is_smooth, is_smooth_paper, mirrors_at, row_paper, smooth_paper, worst_members,
+)
 from underwords.paths.orders import (
     is_mirror_order, is_order_paper, is_rising, least_steps, longest_member, longest_rising, mirror_row, moved_order,
     order_paper, path_numbers, reversed_order, rising_numbers, rising_paths, word_of_order,
@@ -31,6 +41,7 @@ from underwords.paths.orders import (
 from underwords.ratio.flags import far_count, far_flag, first_flag, flag_count, is_flag, position
 from underwords.ratio.rs import r_by_paths, r_poly, r_row
 from underwords.rows.rows import corner, is_corner, is_pattern_places, pattern_places, word_of, word_of_signed
+from underwords.rows.tables import all_tables, bumped, is_table, row_of_tables
 from underwords.sheaf.webs import is_section, led_row, makers, section_number, web_ties
 from underwords.under.intervals import covers_of, interval, ladder_number, middle_pair, moebius, numbers
 from underwords.under.lots import Lot, is_lot_likeness, lot_likeness, lot_of
@@ -39,6 +50,8 @@ from underwords.under.under import all_places, is_under, is_under_paper, members
 LOT = Lot((0, 1), ((0, 1),))
 ORDER = mirror_row(FOUR, longest_member(FOUR))
 GOLDS = (Gold(1), Gold(0), Gold(2))
+CELL = ((0,), (1, 0), (2, 1, 0))
+CUP = (1, 0, 3, 2)
 ODD = [None, True, False, 10 ** 99, -10 ** 60, "", "word", " \t\n", (None,), (True,), (0, False), ("0",), [], [0], [(0,)], {},
        {(0,): 1}, {0: (1,)}, ((((((((),),),),),),),), (10 ** 60,), (3,), (-1,), Gold(0), Poly((1,)), (Gold(1),), (0,) * 41]
 
@@ -66,6 +79,13 @@ KINDS = {
     "mask": ([*ODD, FOUR, 0, (), (0,), (0, 2), (0, 0, 0)], "InvalidOperation", False),
     "golds": ([*ODD, FOUR, 0, (), (1, 0, 2), GOLDS[1:], list(GOLDS)], "InvalidOperation", False),
     "matching": ([*ODD, FOUR, 0, (), (0, 1), (1, 1)], "InvalidOperation", False),
+    "table": ([*ODD, FOUR, 0, (), ((1,),), ((2, 1),), ((1, 2), (3,)), ((1, 3),), [(1, 2)]], "InvalidRow", False),
+    "places": ([*ODD, FOUR, 0, 1, 6, -2, ()], "InvalidNumber", True),
+    "diagram": ([*ODD, FOUR, 0, (), (3, 2, 1, 0), (1, 0), (1, 0, 2, 3), (1, 0, 3, 2, 5, 4), list(CUP)], "InvalidRow", False),
+    "word of two": ([*[value for value in ODD if value != ()], (1,), (0, 1), FOUR, 0], "InvalidWord", False),
+    "cell": ([*ODD, FOUR, 0, (), ((0,),), CELL[::-1], list(CELL), ((0,), (1, 0), (2, 1, False))], "InvalidOperation", False),
+    "single": ([*ODD, FOUR, 1, -1, ()], "InvalidNumber", True),
+    "element": ([*ODD, FOUR, LOT, 0, Element, {(): Poly((1,))}], "InvalidElement", False),
     "entries": ([*[value for value in ODD if value != {}], FOUR, LOT, 0, (), {(0,): LOT}], "InvalidElement", False),
 }
 CALLS = [
@@ -124,7 +144,23 @@ CALLS = [
     (corner, ("any row", (2, 1)), ("any row", (1, -2))), (is_corner, ("any row", (2, 1)), ("any row", (1, 2)), (None, (1, 2))),
     (pattern_places, ("row of integers", (1, 2)), ("row of integers", (1, 2))),
     (is_pattern_places, ("row of integers", (1, 2)), ("row of integers", (1, 2)), (None, (0, 1))),
+    (bumped, ("row of integers", (2, 1))), (row_of_tables, ("table", ((1, 2),)), ("table", ((1, 2),))), (is_table, (None, ((1, 2),))),
+    (all_tables, ("places", 2)), (mirrors_at, ("system", FOUR), ("word", (0, 1)), ("word", ())), (is_smooth, ("system", FOUR), (None, (0, 1))),
+    (smooth_paper, ("system", FOUR), ("word", (0, 1))), (is_smooth_paper, ("system", FOUR), ("word", (0, 1)), (None, ("smooth", (1, 2, 1)))),
+    (worst_members, ("system", FOUR), ("word", (0, 1))), (row_paper, ("row of integers", (2, 1))),
+    (is_row_paper, ("row of integers", (2, 1)), (None, ("smooth", (1,)))),
+    (c_product, ("system", FOUR), ("word", (0, 1)), ("word", (1,))), (mu_ties, ("system", FOUR)), (left_cells, ("system", FOUR)),
+    (cell_table, ("system", FOUR), ("cell", CELL), ("letter", 1)), (greatest_power, ("system", FOUR), ("word", (0, 1))),
+    (turned_poly, ("system", FOUR), ("word", (0,)), ("word", (0, 1))), (is_loose, ("system", FOUR), ("word", (0, 1))),
+    (loose_paper, ("system", FOUR), ("word", (0, 1))), (is_loose_paper, ("system", FOUR), ("word", (0, 1)), (None, ("loose", ((0, 1),)))),
+    (heap_of, ("system", FOUR), ("word", (0, 1))), (readings, ("system", FOUR), ("word", (0, 1))), (loose_members, ("system", FOUR)),
+    (loose_of_length, ("system", FOUR), ("size", 2)), (is_diagram, ("places", 2), (None, CUP)), (all_diagrams, ("places", 2)),
+    (letter_diagram, ("places", 2), ("single", 0)), (diagram_product, ("places", 2), ("diagram", CUP), ("diagram", CUP)),
+    (diagram_of, ("places", 2), ("word of two", (0, 0))), (loose_of_diagram, ("places", 2), ("diagram", CUP)),
+    (loose_image, ("element", t_element(FOUR, (0, 1)))), (loose_product, ("places", 2), ("word of two", (0,)), ("word of two", ())),
 ]
+# Errors that are raised only if no other one applies, also none of a later argument.
+LATE = ("cell",)
 
 
 class ArgumentsTest(Case):
@@ -150,7 +186,7 @@ class ArgumentsTest(Case):
                 for value in KINDS[kind][0] if kind else ():
                     for worse in KINDS[other][0][::3] if other else (None, 10 ** 99):
                         given = [*right[:at], value, *right[at + 1:later], worse, *right[later + 1:]]
-                        self.refused(act, kind, value, given)
+                        self.refused(act, other if kind in LATE else kind, worse if kind in LATE else value, given)
 
     def test_values_that_are_judged(self):
         for act, *parameters in CALLS:

@@ -6,12 +6,14 @@ from underwords import errors
 from underwords.algebra import elements
 from underwords.base.golds import Gold
 from underwords.base.polys import Poly
+from underwords.cells import cells
 from underwords.groups import mirrors, words
 from underwords.groups.systems import System
-from underwords.ones import masks, matchings, polys
+from underwords.loose import diagrams, loose
+from underwords.ones import masks, matchings, polys, smooth
 from underwords.paths import orders
 from underwords.ratio import flags, rs
-from underwords.rows import rows
+from underwords.rows import rows, tables
 from underwords.sheaf import webs
 from underwords.under import intervals, lots, under
 
@@ -174,17 +176,57 @@ ROWS = """
 [(1, 2), None, (2, 1), (1, -1)]
 >>> [pattern_places((4, 5, 3, 1, 2), (3, 4, 1, 2)), is_pattern_places((4, 2, 3, 1), (2, 1), (0, 2))]
 [(0, 1, 3, 4), True]
+>>> [bumped((2, 3, 1)), row_of_tables(((1, 3), (2,)), ((1, 2), (3,))), len(all_tables(5))]
+[(((1, 3), (2,)), ((1, 2), (3,))), (2, 3, 1), 26]
 >>> row_of((2,), 3)
 raises InvalidWord
 """
+SMOOTH = """
+>>> [mirrors_at(FOUR, (1, 0, 2, 1), ()), mirrors_at(FOUR, (1, 0, 2, 1), (1,)), mirrors_at(FOUR, (1, 0, 2, 1), (0,)), is_smooth(FOUR, (1, 0, 2, 1)), is_smooth(FOUR, (0, 1, 0))]
+[5, 5, 4, False, True]
+>>> [smooth_paper(FOUR, (0, 1, 0)), is_smooth_paper(FOUR, (1, 0, 2, 1), ("mirrors", (1,), 5)), worst_members(FOUR, (1, 0, 2, 1)), worst_members(FOUR, (0, 1, 2, 1, 0)), worst_members(TWENTY, (0, 1, 0))]
+[('smooth', (1, 2, 2, 1)), True, ((1,),), ((0, 2),), ()]
+>>> [row_paper((4, 3, 2, 1)), row_paper((3, 4, 1, 2)), is_row_paper((4, 5, 3, 1, 2), ("pattern", (0, 1, 3, 4))), row_paper((1, 2))]
+[('smooth', (1, 2, 3)), ('pattern', (0, 1, 2, 3)), True, ('smooth', ())]
+>>> EIGHT = (0, 1, 0, 2, 1, 0, 1, 2)
+>>> [is_smooth(System.signed(3), EIGHT), mirrors_at(System.signed(3), EIGHT, ())]
+[False, 8]
+>>> mirrors_at(FOUR, (0, 1), (2,))
+raises InvalidOperation
+"""
+CELLS = """
+>>> THREE, TWICE = System.rows(3), Poly((1, 0, 1), -1)
+>>> [c_product(THREE, (0,), (0,)) == {(0,): TWICE}, c_product(THREE, (1,), (0, 1)) == {(1,): Poly((1,)), (0, 1, 0): Poly((1,))}, c_product(THREE, (1,), (0,)) == {(1, 0): Poly((1,))}]
+[True, True, True]
+>>> [left_cells(THREE), len(left_cells(FOUR)), [len(cell) for cell in left_cells(SQUARE)]]
+[(((),), ((0,), (1, 0)), ((1,), (0, 1)), ((0, 1, 0),)), 10, [1, 3, 3, 1]]
+>>> cell_table(THREE, ((0,), (1, 0)), 0) == ((TWICE, Poly((1,))), (Poly(()), Poly(())))
+True
+>>> [[greatest_power(THREE, word) for word in ((), (0,), (1, 0), (0, 1, 0))], greatest_power(SQUARE, (0, 1, 0)), greatest_power(SQUARE, (0, 1, 0, 1))]
+[[0, 1, 1, 3], 1, 4]
+"""
+LOOSE = """
+>>> [is_loose(FOUR, (1, 0, 2)), is_loose(FOUR, (0, 2, 1, 0)), loose_paper(FOUR, (1, 0, 2)), is_loose_paper(FOUR, (0, 2, 1, 0), ("run", (2, 0, 1, 0), 1))]
+[True, False, ('loose', ((0, 1), (0, 2))), True]
+>>> [heap_of(FOUR, (1, 2, 0)), readings(FOUR, (1, 2, 0)), len(loose_members(FIVE)), len(loose_of_length(RING, 3))]
+[((1, 0, 2), ((0, 1), (0, 2))), ((0, 1, 2), (0, 2, 1)), 42, 6]
+>>> [letter_diagram(4, 0), diagram_of(4, (0, 0)), diagram_of(4, (0, 1, 0))]
+[(1, 0, 6, 7, 5, 4, 2, 3), ((1, 0, 6, 7, 5, 4, 2, 3), 1), ((1, 0, 6, 7, 5, 4, 2, 3), 0)]
+>>> [loose_product(4, (0,), (0,)) == ((0,), Poly((1, 1))), loose_product(4, (0, 1), (0,)) == ((0,), Poly((0, 1)))]
+[True, True]
+>>> heap_of(FOUR, (0, 1, 0))
+raises Refused(("run",))
+"""
 
-TEXTS = (GOLDS_AND_POLYS, WORDS, MIRRORS, UNDER, INTERVALS_AND_LOTS, ORDERS, R_AND_FLAGS, ALGEBRA, P, MATCHINGS, MASKS, WEBS, ROWS)
+TEXTS = (GOLDS_AND_POLYS, WORDS, MIRRORS, UNDER, INTERVALS_AND_LOTS, ORDERS, R_AND_FLAGS, ALGEBRA, P, MATCHINGS, MASKS, WEBS, ROWS,
+         SMOOTH, CELLS, LOOSE)
 
 
 def named():
     """The names that the examples use."""
     found = {"System": System, "Gold": Gold, "Poly": Poly}
-    for module in (words, mirrors, under, intervals, lots, orders, rs, flags, elements, polys, matchings, masks, webs, rows):
+    for module in (words, mirrors, under, intervals, lots, orders, rs, flags, elements, polys, matchings, masks, webs, rows, tables,
+                   smooth, cells, loose, diagrams):
         found.update({name: value for name, value in vars(module).items() if not name.startswith("_")})
     return found
 
@@ -218,7 +260,7 @@ class ExamplesTest(unittest.TestCase):
                 self.assertEqual(repr(eval(row, names)), wanted, row)
 
     def test_there_are_examples(self):
-        self.assertEqual([len(rows_of(text)) for text in TEXTS], [5, 5, 5, 5, 8, 6, 5, 7, 4, 6, 6, 7, 4])
+        self.assertEqual([len(rows_of(text)) for text in TEXTS], [5, 5, 5, 5, 8, 6, 5, 7, 4, 6, 6, 7, 5, 6, 5, 5])
 
     def test_golds_and_polys(self):
         self.run_text(GOLDS_AND_POLYS)
@@ -256,8 +298,17 @@ class ExamplesTest(unittest.TestCase):
     def test_webs(self):
         self.run_text(WEBS)
 
-    def test_rows(self):
+    def test_rows_and_tables(self):
         self.run_text(ROWS)
+
+    def test_smooth(self):
+        self.run_text(SMOOTH)
+
+    def test_cells(self):
+        self.run_text(CELLS)
+
+    def test_loose(self):
+        self.run_text(LOOSE)
 
 
 if __name__ == "__main__":
