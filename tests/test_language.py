@@ -66,6 +66,12 @@ INTERFACE = {
     "ones/smooth.py": "mirrors_at is_smooth smooth_paper is_smooth_paper worst_members row_paper is_row_paper",
     "cells/cells.py": "MAX_MEMBERS MAX_TRIED c_product mu_ties left_cells cell_table greatest_power turned_poly",
     "loose/loose.py": "is_loose loose_paper is_loose_paper heap_of readings loose_members loose_of_length",
+    "cosets/cosets.py": "KINDS is_least least_in split coset greatest_in least_members coset_r coset_p",
+    "endless/windows.py": """is_window window_length window_of word_of_window window_product corner_number window_corner
+        is_window_corner""",
+    "endless/numbers.py": "is_endless degrees greatest_length length_numbers numbers_by_letters least_numbers",
+    "text/texts.py": "write read",
+    "desk/desk.py": "MAX_NAME MAX_SAID Desk",
     "loose/diagrams.py": """is_diagram all_diagrams letter_diagram diagram_product diagram_of loose_of_diagram loose_image
         loose_product""",
 }
@@ -75,10 +81,18 @@ CLASSES = {
         __neg__ __eq__ __bool__ __len__ __str__""",
     "System": "__init__ rows signed polygon twenty ring letters bonds bond_of __eq__ __str__",
     "Lot": "__init__ ranks covers below above leads between __eq__ __len__ __str__",
+    "Desk": """__init__ system kept sayings past do say unsay is_true undo twin __contains__ __getitem__ __len__ __iter__ __eq__
+        __str__""",
     "Element": "__init__ system entries poly_of bar undone times __add__ __sub__ __mul__ __len__ __bool__ __eq__ __str__",
 }
 # The parameters of functions whose names and defaults the document tells.
-KEYWORDS = {("ones/matchings.py", "letter_matching"): "system, word, letter, *, right=False"}
+KEYWORDS = {
+    ("ones/matchings.py", "letter_matching"): "system, word, letter, *, right=False",
+    ("cosets/cosets.py", "coset_r"): "system, one, other, letters, *, kind='q'",
+    ("cosets/cosets.py", "coset_p"): "system, one, other, letters, *, kind='q'",
+}
+# The packages' own names that nothing else of the package may have, where a class can be indexed.
+GUARDED = ("(type)", "Meta", "metaclass=")
 
 
 def parsed(path):
@@ -268,6 +282,35 @@ class LanguageTest(unittest.TestCase):
                     self.assertIn(ast.unparse(target.value), made, ast.unparse(node))
             if isinstance(node, ast.Call) and isinstance(node.func, ast.Attribute) and node.func.attr in CHANGING:
                 self.assertIn(ast.unparse(node.func.value).split("[")[0], made, ast.unparse(node))
+
+    def test_what_a_class_that_can_be_indexed_asks_for(self):
+        for path, text, tree in self.each():
+            self.assertFalse([word for word in GUARDED if word in text])
+            for node in ast.walk(tree):
+                if isinstance(node, ast.Call) and isinstance(node.func, ast.Name) and node.func.id == "reversed":
+                    self.assertRegex(ast.unparse(node.args[0]), r"^(list|tuple|sorted|range)\(")
+                if isinstance(node, ast.ClassDef):
+                    methods = [item for item in node.body if isinstance(item, ast.FunctionDef)]
+                    names = {item.name for item in methods}
+                    self.assertTrue("__getitem__" not in names or "__iter__" in names)
+                    for item in methods:
+                        if item.name == "__iter__":
+                            self.assertRegex(ast.unparse(item.body[-1]), r"^return iter\(self\.\w+\)$")
+                            self.assertEqual(len(item.body), 1)
+
+    def test_names_of_methods_and_attributes(self):
+        decorated, plain, attributes = set(), set(), set()
+        for path, text, tree in self.each():
+            for node in ast.walk(tree):
+                if isinstance(node, ast.ClassDef):
+                    for item in node.body:
+                        if isinstance(item, ast.FunctionDef):
+                            (decorated if item.decorator_list else plain).add(item.name)
+                if isinstance(node, ast.Attribute) and isinstance(node.ctx, ast.Store):
+                    attributes.add(node.attr)
+        self.assertFalse((decorated | plain) & attributes)
+        self.assertFalse(decorated & plain)
+        self.assertFalse(attributes & (METHODS - {"add", "discard"}))
 
     def test_interface(self):
         for place, names in INTERFACE.items():

@@ -75,7 +75,7 @@ class Element:
         if not isinstance(other, Element):
             return NotImplemented
         check_alike(self, other)
-        if greatest_length(self._entries) + greatest_length(other._entries) > LONGEST:
+        if longest_size(self._entries) + longest_size(other._entries) > LONGEST:
             raise TooMany(LONGEST)
         links = links_of(self._system)
         is_growing = never_shrinks(self._entries, other._entries)
@@ -132,7 +132,7 @@ def check_alike(one, other):
         raise InvalidOperation("elements of unlike systems")
 
 
-def greatest_length(entries):
+def longest_size(entries):
     """The greatest length of a member, 0 if there is none."""
     return max([len(word) for word in entries], default=0)
 

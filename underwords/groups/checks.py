@@ -1,7 +1,7 @@
 """The checks of the arguments that many functions take."""
 
 from underwords.base.integers import is_within
-from underwords.errors import InvalidSystem, InvalidWord
+from underwords.errors import InvalidOperation, InvalidSystem, InvalidWord
 from underwords.groups.systems import System
 
 LONGEST_WORD = 40
@@ -36,3 +36,11 @@ def check_words(system, *words):
     check_system(system)
     for word in words:
         check_word(system, word)
+
+
+def check_letters(system, letters):
+    """Refuse what is no ascending tuple of letters of the system."""
+    if not isinstance(letters, tuple) or not all([is_letter(system, letter) for letter in letters]):
+        raise InvalidOperation("no tuple of letters")
+    if not all([one < other for one, other in zip(letters, letters[1:])]):
+        raise InvalidOperation("no ascending tuple")

@@ -72,12 +72,18 @@ def by_length(words):
 
 def next_level(links, level):
     """The members that are longer by 1, from the dict of the states of one length to the normal words."""
+    return next_level_by(links, level, list(range(len(links))))
+
+
+def next_level_by(links, level, letters):
+    """The members by some letters alone that are longer by 1, from those of one length."""
     found = {}
     for state in level:
-        for letter in range(len(links)):
+        for letter in letters:
             if not is_below(state[letter]):
                 longer = put_ahead(links, state, letter)
                 if longer not in found:
+                    # The left letters of a member by some letters are among these.
                     least = left_of(longer)[0]
                     rest = level[put_ahead(links, longer, least)]
                     found[longer] = (least, *rest)

@@ -1,4 +1,4 @@
-"""Curves that do not cross, between the points of an upper and of a lower line, and what becomes of them if joined."""
+"""Curves that do not cross, between the points of an upper and of a lower line, and what they make if joined."""
 
 from underwords.base.integers import is_within
 

@@ -1,0 +1,1 @@
+"""Cosets by lots of letters, and their polynomials R and P."""

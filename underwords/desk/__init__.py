@@ -1,0 +1,1 @@
+"""A desk that keeps members by names, and sayings about them."""

@@ -1,0 +1,1 @@
+"""Windows of the endless rings, and numbers of members by length."""

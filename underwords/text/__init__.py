@@ -1,0 +1,1 @@
+"""Texts of systems, elements, polynomials and lots."""
