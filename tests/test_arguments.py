@@ -9,6 +9,16 @@ from underwords.algebra.elements import Element, back_of, letter_element, produc
 from underwords.base.golds import Gold
 from underwords.base.polys import Poly
 from underwords.cells.cells import c_product, cell_table, greatest_power, left_cells, mu_ties, turned_poly
+from underwords.cosets.cosets import (
+    coset, coset_p, coset_r, greatest_in, is_least, least_in, least_members, split,
+)
+from underwords.desk.desk import Desk
+from underwords.endless.numbers import (
+    degrees, greatest_length, is_endless, least_numbers, length_numbers, numbers_by_letters,
+)
+from underwords.endless.windows import (
+    corner_number, is_window, is_window_corner, window_corner, window_length, window_of, window_product, word_of_window,
+)
 from underwords.groups.mirrors import (
     inversions, is_lot_paper, is_mirror, led_root, lot_paper, mirror_of, mirrors, root_of,
 )
@@ -43,6 +53,7 @@ from underwords.ratio.rs import r_by_paths, r_poly, r_row
 from underwords.rows.rows import corner, is_corner, is_pattern_places, pattern_places, word_of, word_of_signed
 from underwords.rows.tables import all_tables, bumped, is_table, row_of_tables
 from underwords.sheaf.webs import is_section, led_row, makers, section_number, web_ties
+from underwords.text.texts import write
 from underwords.under.intervals import covers_of, interval, ladder_number, middle_pair, moebius, numbers
 from underwords.under.lots import Lot, is_lot_likeness, lot_likeness, lot_of
 from underwords.under.under import all_places, is_under, is_under_paper, members_under, under_paper
@@ -84,6 +95,13 @@ KINDS = {
     "diagram": ([*ODD, FOUR, 0, (), (3, 2, 1, 0), (1, 0), (1, 0, 2, 3), (1, 0, 3, 2, 5, 4), list(CUP)], "InvalidRow", False),
     "word of two": ([*[value for value in ODD if value != ()], (1,), (0, 1), FOUR, 0], "InvalidWord", False),
     "cell": ([*ODD, FOUR, 0, (), ((0,),), CELL[::-1], list(CELL), ((0,), (1, 0), (2, 1, False))], "InvalidOperation", False),
+    "letters": ([*[value for value in ODD if value != ()], FOUR, LOT, 0, (1, 0), (0, 0), (0, 1, 3)], "InvalidOperation", False),
+    "ring": ([*ODD, FOUR, 0, 1, 4, -2, ()], "InvalidNumber", True),
+    "ring word": ([*ODD, FOUR, 0, (2,), ((0,),)], "InvalidWord", False),
+    "window": ([*ODD, FOUR, 0, (), (1, 1), (1, 2, 3), (2, 2), (-41, 44), (0, 2), [1, 2]], "InvalidRow", False),
+    "spot of two": ([*ODD, FOUR, 0, 3, -1, ()], "InvalidNumber", True),
+    "least": ([*ODD, FOUR, -1001, 1001, ()], "InvalidNumber", True),
+    "text": ([*[value for value in ODD if not isinstance(value, Poly)], 0, (), Desk(FOUR)], "InvalidOperation", False),
     "single": ([*ODD, FOUR, 1, -1, ()], "InvalidNumber", True),
     "element": ([*ODD, FOUR, LOT, 0, Element, {(): Poly((1,))}], "InvalidElement", False),
     "entries": ([*[value for value in ODD if value != {}], FOUR, LOT, 0, (), {(0,): LOT}], "InvalidElement", False),
@@ -157,6 +175,19 @@ CALLS = [
     (loose_of_length, ("system", FOUR), ("size", 2)), (is_diagram, ("places", 2), (None, CUP)), (all_diagrams, ("places", 2)),
     (letter_diagram, ("places", 2), ("single", 0)), (diagram_product, ("places", 2), ("diagram", CUP), ("diagram", CUP)),
     (diagram_of, ("places", 2), ("word of two", (0, 0))), (loose_of_diagram, ("places", 2), ("diagram", CUP)),
+    (is_least, ("system", FOUR), ("word", (0, 1)), ("letters", (0, 2))), (least_in, ("system", FOUR), ("word", (0, 1)), ("letters", (0, 2))),
+    (split, ("system", FOUR), ("word", (0, 1)), ("letters", (0, 2))), (coset, ("system", FOUR), ("word", (0, 1)), ("letters", (0, 2))),
+    (greatest_in, ("system", FOUR), ("word", (0, 1)), ("letters", (0, 2))), (least_members, ("system", FOUR), ("letters", (0, 2))),
+    (coset_r, ("system", FOUR), ("word", (0, 1)), ("word", (1,)), ("letters", (0, 2))),
+    (coset_p, ("system", FOUR), ("word", (0, 1)), ("word", (1,)), ("letters", (0, 2))),
+    (is_window, ("ring", 2), (None, (1, 2))), (window_length, ("ring", 2), ("window", (1, 2))), (window_of, ("ring", 2), ("ring word", (1,))),
+    (word_of_window, ("ring", 2), ("window", (1, 2))), (window_product, ("ring", 2), ("window", (1, 2)), ("window", (2, 1))),
+    (corner_number, ("ring", 2), ("window", (1, 2)), ("spot of two", 1), ("least", -1000)),
+    (window_corner, ("ring", 2), ("window", (2, 1)), ("window", (1, 2))),
+    (is_window_corner, ("ring", 2), ("window", (2, 1)), ("window", (1, 2)), (None, (1, 2))),
+    (is_endless, ("system", FOUR)), (degrees, ("system", FOUR)), (greatest_length, ("system", FOUR)),
+    (length_numbers, ("system", FOUR), ("size", 3)), (numbers_by_letters, ("system", FOUR), ("size", 3)),
+    (least_numbers, ("system", FOUR), ("letters", (0, 2)), ("size", 3)), (Desk, ("system", FOUR)), (write, ("text", LOT)),
     (loose_image, ("element", t_element(FOUR, (0, 1)))), (loose_product, ("places", 2), ("word of two", (0,)), ("word of two", ())),
 ]
 # Errors that are raised only if no other one applies, also none of a later argument.
@@ -192,7 +223,7 @@ class ArgumentsTest(Case):
         for act, *parameters in CALLS:
             if parameters[-1][0] is None:
                 right = [value for _, value in parameters[:-1]]
-                self.assertIs(act(*right, parameters[-1][1]), act not in (is_lot_paper, is_under_paper))
+                self.assertIs(act(*right, parameters[-1][1]), act not in (is_lot_paper, is_under_paper), act)
                 for value in [*ODD, FOUR, LOT, act, (act,), ("path", ODD), ("bar", ODD, ODD), ("plane", 1, 2, 3), 10 ** 5000]:
                     self.assertIs(act(*right, value), False, (act, value))
 

@@ -7,6 +7,9 @@ from underwords.algebra import elements
 from underwords.base.golds import Gold
 from underwords.base.polys import Poly
 from underwords.cells import cells
+from underwords.cosets import cosets
+from underwords.desk import desk
+from underwords.endless import numbers, windows
 from underwords.groups import mirrors, words
 from underwords.groups.systems import System
 from underwords.loose import diagrams, loose
@@ -15,6 +18,7 @@ from underwords.paths import orders
 from underwords.ratio import flags, rs
 from underwords.rows import rows, tables
 from underwords.sheaf import webs
+from underwords.text import texts
 from underwords.under import intervals, lots, under
 
 SYSTEMS = """
@@ -217,16 +221,54 @@ LOOSE = """
 >>> heap_of(FOUR, (0, 1, 0))
 raises Refused(("run",))
 """
+COSETS = """
+>>> [split(FOUR, (0, 1, 0, 2), (0, 2)), is_least(FOUR, (0, 1), (0, 2)), greatest_in(FOUR, (), (0, 1))]
+[((0, 1), (0, 2)), True, (0, 1, 0)]
+>>> [coset(FOUR, (1,), (0, 2)), least_members(FOUR, (0, 2))]
+[((1,), (1, 0), (1, 2), (1, 0, 2)), ((), (1,), (0, 1), (2, 1), (0, 2, 1), (1, 0, 2, 1))]
+>>> [coset_p(FOUR, (), (1, 0, 2, 1), (0, 2)) == Poly((0, 1)), coset_p(FOUR, (), (1, 0, 2, 1), (0, 2), kind="-1") == Poly((1,)), coset_p(FOUR, (), (0, 1), (0,)) == Poly(())]
+[True, True, True]
+>>> [coset_p(FOUR, (), (0, 2, 1), (0, 2), kind="-1") == Poly((1, 1)), coset_p(FOUR, (), (0, 2, 1), (0, 2)) == Poly(()), coset_r(FOUR, (), (1,), (0,), kind="-1") == Poly((-1, 1))]
+[True, True, True]
+>>> greatest_in(System.ring(2), (), (0, 1))
+raises TooMany(120)
+"""
+ENDLESS = """
+>>> [window_of(3, (0,)), window_of(2, (1, 0)), word_of_window(3, (0, 2, 4)), window_length(3, (-2, 2, 6)), window_product(2, (0, 3), (2, 1))]
+[(0, 2, 4), (-1, 4), (0,), 4, (3, 0)]
+>>> [corner_number(2, (0, 3), 2, 3), corner_number(2, (2, 1), 2, 3), is_window_corner(2, (0, 3), (2, 1), (2, 3)), window_corner(3, (1, 2, 3), (0, 2, 4))]
+[1, 0, True, None]
+>>> [is_endless(RING), degrees(TWENTY), greatest_length(TWENTY), degrees(System(4, ((0, 1, 3), (2, 3, 6))))]
+[True, (2, 6, 10), 15, (2, 2, 3, 6)]
+>>> [length_numbers(RING, 5), numbers_by_letters(SQUARE, 5), least_numbers(RING, (0, 1), 5)]
+[(1, 3, 6, 9, 12, 15), (1, 2, 2, 2, 1, 0), (1, 1, 2, 2, 3, 3)]
+>>> degrees(RING)
+raises Refused(('endless',))
+"""
+TEXTS_AND_DESK = """
+>>> [write(SQUARE), write(Poly((2, 0, -1), -1)), write(t_element(SQUARE, (1, 0))), read("system 2\\n0 1 4") == SQUARE, read("poly 0") == Poly(())]
+['system 2\\n0 1 4', 'poly -1 2 0 -1', 'system 2\\n0 1 4\\npart 1 0 : 0 1', True, True]
+>>> read("system 2\\n0 1 4\\npart 1 1 : 0 1")
+raises ParseError(2)
+>>> desk = Desk(FOUR)
+>>> desk.do(("put", "a", (1,)), ("put", "b", (1, 0, 2, 1)))
+>>> [desk.say(saying) for saying in (("under", "a", "b"), ("length", "b", 4), ("poly", "a", "b", Poly((1, 1))))]
+[None, None, None]
+>>> [desk["b"], desk.is_true(("smooth", "b")), desk.past, str(desk)]
+[(1, 0, 2, 1), False, 4, 'desk of 3 letters: 2 members, 3 sayings']
+>>> desk.do(("behind", "b", 0))
+raises Refused(('broken', ('length', 'b', 4)))
+"""
 
 TEXTS = (GOLDS_AND_POLYS, WORDS, MIRRORS, UNDER, INTERVALS_AND_LOTS, ORDERS, R_AND_FLAGS, ALGEBRA, P, MATCHINGS, MASKS, WEBS, ROWS,
-         SMOOTH, CELLS, LOOSE)
+         SMOOTH, CELLS, LOOSE, COSETS, ENDLESS, TEXTS_AND_DESK)
 
 
 def named():
     """The names that the examples use."""
     found = {"System": System, "Gold": Gold, "Poly": Poly}
     for module in (words, mirrors, under, intervals, lots, orders, rs, flags, elements, polys, matchings, masks, webs, rows, tables,
-                   smooth, cells, loose, diagrams):
+                   smooth, cells, loose, diagrams, cosets, windows, numbers, texts, desk):
         found.update({name: value for name, value in vars(module).items() if not name.startswith("_")})
     return found
 
@@ -260,7 +302,7 @@ class ExamplesTest(unittest.TestCase):
                 self.assertEqual(repr(eval(row, names)), wanted, row)
 
     def test_there_are_examples(self):
-        self.assertEqual([len(rows_of(text)) for text in TEXTS], [5, 5, 5, 5, 8, 6, 5, 7, 4, 6, 6, 7, 5, 6, 5, 5])
+        self.assertEqual([len(rows_of(text)) for text in TEXTS], [5, 5, 5, 5, 8, 6, 5, 7, 4, 6, 6, 7, 5, 6, 5, 5, 5, 5, 7])
 
     def test_golds_and_polys(self):
         self.run_text(GOLDS_AND_POLYS)
@@ -309,6 +351,15 @@ class ExamplesTest(unittest.TestCase):
 
     def test_loose(self):
         self.run_text(LOOSE)
+
+    def test_cosets(self):
+        self.run_text(COSETS)
+
+    def test_windows_and_numbers(self):
+        self.run_text(ENDLESS)
+
+    def test_texts_and_a_desk(self):
+        self.run_text(TEXTS_AND_DESK)
 
 
 if __name__ == "__main__":
