@@ -327,6 +327,9 @@ class MovesTest(DeskCase):
         other.do(("put", "c", (2, 0)))
         other.do(("put", "b", (1, 2, 0, 1)), ("put", "a", (1,)))
         self.assertEqual((desk == other, desk != other, desk.past == other.past), (True, False, False))
+        less = filled()
+        less.do(("put", "c", (0,)))
+        self.assertEqual((desk == less, desk != less, less == filled(), less == Desk(FOUR)), (False, True, False, False))
         for saying in (("smooth", "a"), ("length", "a", 1)):
             desk.say(saying)
         self.assertNotEqual(desk, other)

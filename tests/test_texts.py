@@ -135,6 +135,8 @@ class TextsTest(Case):
             self.wrong(3, f"system 3\n0 1 3\n1 2 3\n{line}\npart 2 : 0 1\n")
         for line in ("part : 0 1", "part 0 : 0 1", "part 0 1 : 0 1", "part 0 1 0 : 2 2", "0 1 3", "1 2 3", "0 2 3", "system 3", "zero", "", "poly 0"):
             self.wrong(2, f"system 3\npart 0 2 : 0 1\n{line}" if line != "part 0 1 : 0 1" else "system 3\npart 0 2 : 0 1\npart 0 1 : 0 1")
+        for line in ("part 0 2 : 0 1", "part 0 2 : 0 5"):
+            self.wrong(2, f"system 3\npart 0 2 : 0 1\n{line}")
         self.wrong(2, "zero\nsystem 3\npart : 0 1")
         self.wrong(3, "zero\nsystem 2\n0 1 3\npart 0 : 0 1")
         self.wrong(2, "zero\nsystem 2\npart nothing")

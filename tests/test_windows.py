@@ -88,7 +88,7 @@ class WindowsTest(Case):
             self.assertTrue(many > 80)
 
     def test_values_near_to_windows(self):
-        for value in (*WRONG, (1, 2), (1, 2, 4), (1, 2, 3, 4), [1, 2, 3], (True, 2, 3), (1, 2.0, 3), (1, None, 3), (2, 2, 2), (0, 3, 3),
+        for value in (*WRONG, (1, 2), (1, 2, 4), (1, 2, 3, 4), (1, 2, 3, 0), (0, 1, 2, 3), [1, 2, 3], (True, 2, 3), (1, 2.0, 3), (1, None, 3), (2, 2, 2), (0, 3, 3),
                       (-32, 3, 35), (10 ** 5000, 2, 4 - 10 ** 5000), "123", ((1,), 2, 3), (1, 2, (3,))):
             self.assertIs(is_window(3, value), False, value)
         for value in ((1, 2, 3), (3, 2, 1), (0, 2, 4), (4, 2, 0), (-29, 2, 33), (2, 3, 1)):
@@ -109,6 +109,12 @@ class WindowsTest(Case):
             self.refuses("TooMany", 40, window_product, size, window_product(size, long, long), long)
         self.assertEqual((window_product(2, (41, -38), (-39, 42)), window_product(2, (-39, 42), (41, -38))), ((1, 2), (1, 2)))
         self.refuses("TooMany", 40, window_product, 2, (41, -38), (41, -38))
+        for size in SIZES:
+            long = ((0, 1) if size == 2 else (0, 1, 2)) * 21
+            for at in (1, 15, 39):
+                first, second = window_of(size, long[:at]), window_of(size, long[at:40])
+                self.assertEqual(window_length(size, window_product(size, first, second)), 40)
+                self.refuses("TooMany", 40, window_product, size, first, window_of(size, long[at:41]))
 
     def test_errors(self):
         for act, windows, rest in (
@@ -183,7 +189,7 @@ class CornersTest(Case):
                       (10 ** 5000, 3), (0, 3), (3, 3), (-2, 3), "23", (2, 1003), (2, -997)):
             self.assertIs(is_window_corner(2, first, second, value), False, value)
         self.assertIsNone(window_corner(2, (1, 2), (1, 2)))
-        self.assertIs(is_window_corner(2, (-1, 4), (3, 0), (1, True)), False)
+        self.assertEqual([is_window_corner(2, (3, 0), (-1, 4), value) for value in ((1, 1), (1, True), (True, 1))], [True, False, False])
 
 
 if __name__ == "__main__":

@@ -18,7 +18,8 @@ def loose_paper(system, word):
     run = run_places(system, shortest)
     if run is None:
         return ("loose", ties_of_word(system, shortest))
-    return ("run", *with_run(system, shortest, run))
+    stretched, at = with_run(system, shortest, run)
+    return ("run", stretched, at)
 
 
 def is_loose_paper(system, word, value):

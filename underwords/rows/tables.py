@@ -59,12 +59,12 @@ def all_tables(places):
 
 def put_in(table, entry):
     """Put an integer into the rows of a table, and tell the index of the row that is longer by then."""
-    for at, entries in enumerate(table):
-        greater = [told for told in entries if told > entry]
+    for at in range(len(table)):
+        greater = [told for told in table[at] if told > entry]
         if not greater:
-            entries.append(entry)
+            table[at].append(entry)
             return at
-        entries[entries.index(greater[0])] = entry
+        table[at][table[at].index(greater[0])] = entry
         entry = greater[0]
     table.append([entry])
     return len(table) - 1
@@ -73,9 +73,9 @@ def put_in(table, entry):
 def taken_out(table, last):
     """Take the last integer out of a row of a table, put it back upward, and tell the integer that falls out."""
     entry = table[last].pop()
-    for entries in table[:last][::-1]:
-        less = [told for told in entries if told < entry]
-        entries[len(less) - 1] = entry
+    for at in range(last - 1, -1, -1):
+        less = [told for told in table[at] if told < entry]
+        table[at][len(less) - 1] = entry
         entry = less[-1]
     return entry
 
