@@ -224,8 +224,9 @@ class ArgumentsTest(Case):
             if parameters[-1][0] is None:
                 right = [value for _, value in parameters[:-1]]
                 self.assertIs(act(*right, parameters[-1][1]), act not in (is_lot_paper, is_under_paper), act)
-                for value in [*ODD, FOUR, LOT, act, (act,), ("path", ODD), ("bar", ODD, ODD), ("plane", 1, 2, 3), 10 ** 5000]:
+                for value in [*ODD, FOUR, LOT, act, (act,), ("path", ODD), ("bar", ODD, ODD), ("plane", 1, 2, 3), 10 ** 5000, Desk(FOUR)]:
                     self.assertIs(act(*right, value), False, (act, value))
+                self.assertIs(act(*right, ()), act in (is_shortest, is_smooth), act)
 
     def test_words_are_those_of_the_system(self):
         for word in ((2,), (0, 2)):

@@ -96,7 +96,7 @@ class LooseTest(Case):
         self.assertEqual(kinds, {"loose", "run"})
 
     def test_values_near_to_papers(self):
-        for value in (("loose", ((0, 1),)), ("loose", ((0, 2), (0, 1))), ("loose", ((0, 1), (0, 2), (0, 2))), ("loose", [(0, 1), (0, 2)]),
+        for value in ((), ("Loose", ((0, 1), (0, 2))), ("run", ((0, 1), (0, 2))), ("loose", ((0, 1),)), ("loose", ((0, 2), (0, 1))), ("loose", ((0, 1), (0, 2), (0, 2))), ("loose", [(0, 1), (0, 2)]),
                       ("loose", ((False, 1), (0, 2))), ("loose", ((0, True), (0, 2))), ("loose", ([0, 1], (0, 2))), ("loose",), ("run", (1, 0, 2), 0),
                       ("loose", ((0, 1), (0, 2)), 0), ["loose", ((0, 1), (0, 2))], ("loose", None), (True, ((0, 1), (0, 2))), ("loose", ((0, 1), (1, 2))),
                       ("loose", ((0, 1), (0, 2.0))), ("loose", ((0, 1), (0, 2, 3))), ("loose", "0102"), *WRONG):
