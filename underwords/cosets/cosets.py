@@ -4,7 +4,7 @@ from underwords.base.polys import Poly, poly_of
 from underwords.errors import InvalidOperation, TooMany
 from underwords.groups.checks import check_letters, check_system, check_words
 from underwords.groups.states import (
-    by_length, first_state, left_of, links_of, next_level_by, normal_of, normal_word, put_ahead, state_of,
+    by_length, left_of, links_of, normal_of, normal_word, put_ahead, state_of, words_by,
 )
 from underwords.groups.words import members, right_letters
 from underwords.ones.combined import p_terms
@@ -122,13 +122,9 @@ def check_length(word):
 
 def members_by(links, letters):
     """The normal words of the members by some letters, by length; too many of them are refused."""
-    level = {first_state(links): ()}
-    found = []
-    while level:
-        found.extend(sorted(level.values()))
-        if len(found) > MOST_MEMBERS:
-            raise TooMany(MOST_MEMBERS)
-        level = next_level_by(links, level, letters)
+    found = words_by(links, letters, MOST_MEMBERS)
+    if found is None:
+        raise TooMany(MOST_MEMBERS)
     return found
 
 

@@ -88,3 +88,15 @@ def next_level_by(links, level, letters):
                     rest = level[put_ahead(links, longer, least)]
                     found[longer] = (least, *rest)
     return found
+
+
+def words_by(links, letters, most):
+    """The normal words of the members by some letters, by length, then ascending; None if more than most."""
+    level = {first_state(links): ()}
+    found = []
+    while level:
+        found.extend(sorted(level.values()))
+        if len(found) > most:
+            return None
+        level = next_level_by(links, level, letters)
+    return found

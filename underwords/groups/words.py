@@ -6,7 +6,7 @@ from underwords.groups.checks import check_system, check_words, is_letter, is_wo
 from underwords.groups.exchanges import is_step, path_between
 from underwords.groups.roots import has_unlike_root
 from underwords.groups.states import (
-    first_state, left_of, links_of, next_level, normal_of, normal_word, put_ahead, state_of,
+    first_state, left_of, links_of, next_level, normal_of, normal_word, put_ahead, state_of, words_by,
 )
 
 MAX_WORD = 40
@@ -78,14 +78,9 @@ def shortest_words(system, word):
 def members(system):
     """The tuple of the normal words of all members, by length, and ascending for each length."""
     check_system(system)
-    links = links_of(system)
-    level = {first_state(links): ()}
-    found = []
-    while level:
-        found.extend(sorted(level.values()))
-        if len(found) > MAX_MEMBERS:
-            raise TooMany(MAX_MEMBERS)
-        level = next_level(links, level)
+    found = words_by(links_of(system), list(range(system.letters)), MAX_MEMBERS)
+    if found is None:
+        raise TooMany(MAX_MEMBERS)
     return tuple(found)
 
 
