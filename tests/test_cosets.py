@@ -155,7 +155,7 @@ class PolynomialsTest(Case):
         for system in (System.rows(3), FOUR, SQUARE, SIGNED, System(3), System.polygon(5)):
             for letters in lots(system):
                 leasts = least_members(system, letters)
-                for high in leasts if len(leasts) < 7 else chance.sample(leasts, 5):
+                for high in leasts if len(leasts) < 4 else chance.sample(leasts, 3):
                     yield system, letters, leasts, high
 
     def test_sums_over_the_members_by_the_letters(self):

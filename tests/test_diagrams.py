@@ -213,8 +213,8 @@ class ImagesTest(Case):
         chance = random.Random(2)
         for places, most in ((2, 2), (3, 6), (4, 8), (5, 5)):
             system = System.rows(places)
-            told = members(system)
-            for _ in range(6 if places < 5 else 3):
+            told = members(system)[:24]
+            for _ in range(5 if places < 5 else 3):
                 one, other = [Element(system, {chance.choice(told): Poly((chance.randrange(-3, 4), 1), chance.randrange(-2, 3))
                                                for _ in range(chance.randrange(1, most))}) for _ in range(2)]
                 first, second = loose_image(one), loose_image(other)

@@ -50,7 +50,7 @@ def told_words():
     chance = random.Random(1)
     told = [(system, word) for system in (FOUR, SQUARE, SIGNED, System.polygon(6)) for word in members(system)]
     told += [(system, word) for system in (FIVE, TWENTY) for word in members(system)[::2]]
-    return told + [(system, word) for system in SMALL + BIG for word in some(system, 6 if system.letters < 4 else 4, 25, chance)]
+    return told + [(system, word) for system in SMALL + BIG for word in some(system, 6 if system.letters < 4 else 4, 14, chance)]
 
 
 class LooseTest(Case):

@@ -195,7 +195,7 @@ class RowPapersTest(Case):
         for row in itertools.permutations((1, 2, 3, 4)):
             told = row_paper(row)
             for many in range(0, 5):
-                for runs in itertools.product(range(0, 5), repeat=many):
+                for runs in itertools.product(range(0, 4 if many > 3 else 5), repeat=many):
                     self.assertIs(is_row_paper(row, ("smooth", runs)), told == ("smooth", runs))
 
     def test_values_near_to_papers(self):

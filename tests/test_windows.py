@@ -146,9 +146,9 @@ class CornersTest(Case):
 
     def test_corners_against_under(self):
         chance = random.Random(4)
-        for size, most in ((2, 5), (3, 3)):
+        for size, most in ((2, 4), (3, 3)):
             system = System.ring(size)
-            told = {word: window_of(size, word) for word in short_words(size, most) + some_words(size, 16, 12, chance)}
+            told = {word: window_of(size, word) for word in short_words(size, most) + some_words(size, 16, 8, chance)}
             for one, other in itertools.product(told, repeat=2):
                 first, second = told[one], told[other]
                 self.check_pair(system, size, one, other, first, second)
