@@ -76,6 +76,21 @@ class ProductsTest(Case):
                     self.assertTrue(poly and poly.turned() == poly and min(poly.coefficients) >= 0)
                 self.assertEqual(put_together(system, one, other, told), c_element(system, one) * c_element(system, other))
 
+    def test_products_of_three_members_do_not_hang_on_brackets(self):
+        chance = random.Random(2)
+
+        def times_sum(system, sum_of_members, other, is_turned):
+            total = {}
+            for word, poly in sum_of_members.items():
+                for low, more in (c_product(system, other, word) if is_turned else c_product(system, word, other)).items():
+                    total[low] = total.get(low, ZERO) + poly * more
+            return total
+
+        for system in (THREE, SQUARE, FOUR, System.polygon(5)):
+            for one, two, three in [[chance.choice(members(system)) for _ in range(3)] for _ in range(10)]:
+                first = times_sum(system, c_product(system, one, two), three, False)
+                self.assertEqual(first, times_sum(system, c_product(system, two, three), one, True))
+
     def test_letters(self):
         for system in (FOUR, SQUARE, TWENTY):
             for high in members(system)[::3]:

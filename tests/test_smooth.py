@@ -86,7 +86,7 @@ class SmoothTest(Case):
 
     def test_worst_members(self):
         chance = random.Random(3)
-        told = [(system, word) for system in (FOUR, SIGNED, TWENTY, FIVE) for word in members(system)[::3]]
+        told = [(system, word) for system in (FOUR, SIGNED, TWENTY, FIVE) for word in members(system)[::1 if system == FOUR else 3]]
         told += [(system, word) for system in SMALL for word in some(system, 6, 3, chance)]
         several = 0
         for system, word in told:
