@@ -36,14 +36,7 @@ def mu_ties(system):
 def left_cells(system):
     """The tuple of all left cells, by their first members."""
     check_system(system)
-    graph = member_graph(system)
-    words = graph.table.words
-    behind = [followers(graph, at) for at in range(len(words))]
-    cells = {}
-    for at in range(len(words)):
-        alike = [other for other in sorted(behind[at]) if at in behind[other]]
-        cells.setdefault(alike[0], tuple([words[other] for other in alike]))
-    return tuple([cells[first] for first in sorted(cells)])
+    return cells_of(member_graph(system))
 
 
 def cell_table(system, cell, letter):
@@ -51,9 +44,9 @@ def cell_table(system, cell, letter):
     check_system(system)
     if not is_letter(system, letter):
         raise InvalidNumber(letter)
-    if not is_cell(system, cell):
-        raise InvalidOperation("no left cell as it is returned")
     graph = member_graph(system)
+    if not is_cell(system, graph, cell):
+        raise InvalidOperation("no left cell as it is returned")
     spots = [graph.table.spots[word] for word in cell]
     columns = [table_column(graph, spots, letter, at) for at in spots]
     return tuple([tuple([column[row] for column in columns]) for row in range(len(spots))])
@@ -95,10 +88,22 @@ def followers(graph, at):
     return found
 
 
-def is_cell(system, value):
-    """Whether the value is one of the left cells; which ones there are is found out first."""
-    cells = left_cells(system)
-    return isinstance(value, tuple) and all([is_word(system, word) for word in value]) and value in cells
+def cells_of(graph):
+    """The tuple of the left cells of a graph."""
+    words = graph.table.words
+    behind = [followers(graph, at) for at in range(len(words))]
+    cells = {}
+    for at in range(len(words)):
+        alike = [other for other in sorted(behind[at]) if at in behind[other]]
+        cells.setdefault(alike[0], tuple([words[other] for other in alike]))
+    return tuple([cells[first] for first in sorted(cells)])
+
+
+def is_cell(system, graph, value):
+    """Whether the value is one of the left cells."""
+    if not isinstance(value, tuple) or not all([is_word(system, word) for word in value]):
+        return False
+    return value in cells_of(graph)
 
 
 def table_column(graph, spots, letter, at):
