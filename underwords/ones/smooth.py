@@ -121,6 +121,6 @@ def runs_of(sizes):
     while spots:
         runs.append(spots[0] - 1)
         for at in range(spots[0], len(left)):
-            left[at] += left[at - spots[0]]
+            left[at] = left[at] + left[at - spots[0]]
         spots = [at for at, number in enumerate(left) if at and number]
     return tuple(runs)
