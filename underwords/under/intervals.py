@@ -42,7 +42,7 @@ def ladder_number(system, one, other):
     counts = [1] + [0] * (len(found) - 1)
     # The members stand by length, so all ladders to a member are counted ahead of those that go on from it.
     for low, high in covers_between(links_of(system), found):
-        counts[high] += counts[low]
+        counts[high] = counts[high] + counts[low]
     return counts[-1]
 
 
