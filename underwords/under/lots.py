@@ -121,7 +121,8 @@ def reached_from(steps, start):
                 if near not in reached:
                     reached[near] = True
                     ahead.append(near)
-        now = ahead
+        # A list of its own: the loop over it must not go over the list that it appends to.
+        now = list(ahead)
     return reached
 
 
