@@ -14,9 +14,9 @@ class Pairing:
         self.over = [1 << at for at in range(size)]
         self.under = [1 << at for at in range(size)]
         for low, high in lot.covers[::-1]:
-            self.over[low] |= self.over[high]
+            self.over[low] = self.over[low] | self.over[high]
         for high, low in sorted([(high, low) for low, high in lot.covers]):
-            self.under[high] |= self.under[low]
+            self.under[high] = self.under[high] | self.under[low]
 
 
 def bits_of(spots):
